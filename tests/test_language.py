@@ -1,0 +1,280 @@
+"""The files of the package keep to the mechanical rules of ../shared/LANGUAGE.md."""
+
+import ast
+import builtins
+import os
+import re
+import unittest
+
+ROOT = os.path.dirname(os.path.dirname(os.path.abspath(__file__)))
+PACKAGE = os.path.join(ROOT, "hitclocks")
+ALLOWED_BUILTINS = set(
+    "len range enumerate zip min max sum abs sorted reversed int str bool list tuple dict set isinstance ord repr "
+    "any all divmod super map iter next Exception ValueError TypeError KeyError IndexError LookupError "
+    "ZeroDivisionError StopIteration NotImplemented property staticmethod classmethod".split())
+BUILTIN_METHODS = set(
+    "append clear copy count endswith extend find get index insert isalnum isalpha isdigit islower isspace isupper "
+    "items join keys ljust lower lstrip partition pop remove replace reverse rfind rjust rpartition rsplit rstrip "
+    "setdefault split splitlines startswith strip update upper values zfill bit_length".split())
+BARRED_ATTRIBUTES = set(
+    "items keys values pop update append clear extend insert remove reverse setdefault sort args encode decode hex "
+    "fromhex format format_map mro".split())
+BARRED_EVERYWHERE = set("register mro elements open input law version_info with_traceback add_note".split())
+BARRED_WORDS = re.compile(
+    r"\b(type|typing|typing_extensions|enum|Enum|IntEnum|StrEnum|Flag|IntFlag|Generic|Protocol|ABC|ABCMeta|namedtuple|"
+    r"NamedTuple|TypedDict|TYPE_CHECKING|abstractmethod)\b|dataclass|overload|contextmanager|_wall\b|_WallAttr")
+LIBRARY = {"math": {"gcd", "lcm", "isqrt", "comb", "perm", "factorial"},
+           "heapq": {"heappush", "heappop", "heapify", "heapreplace", "heappushpop"}}
+ORDER = ("errors memories prices fronts unders asking caches programs heads tales dearest papers pumps wholes showings "
+         "matrices equations orders together lengths shortest prefixes spots gaps broken swamped dearplaces sides "
+         "losses alike settling excesses monitors watching barred stairs choices locks means laps meanshows readings "
+         "journals texts talewords desk").split()
+
+
+def files():
+    return sorted(name for name in os.listdir(PACKAGE) if name != "__pycache__")
+
+
+def source(name):
+    with open(os.path.join(PACKAGE, name), encoding="utf-8") as file:
+        return file.read()
+
+
+def tree(name):
+    return ast.parse(source(name))
+
+
+def functions(node):
+    return [part for part in ast.walk(node) if isinstance(part, ast.FunctionDef)]
+
+
+def bound_in(function):
+    """The names that a function binds: parameters, targets, nested functions."""
+    names = set()
+    for part in ast.walk(function):
+        if isinstance(part, ast.arg):
+            names.add(part.arg)
+        if isinstance(part, ast.Name) and isinstance(part.ctx, ast.Store):
+            names.add(part.id)
+        if isinstance(part, ast.FunctionDef) and part is not function:
+            names.add(part.name)
+        if isinstance(part, ast.ExceptHandler) and part.name:
+            names.add(part.name)
+    return names
+
+
+def imports_of(name):
+    found = []
+    for part in tree(name).body:
+        if isinstance(part, ast.ImportFrom) and part.module.startswith("hitclocks."):
+            found.append(part.module[len("hitclocks."):])
+    return found
+
+
+class Files(unittest.TestCase):
+    def test_only_plain_files(self):
+        for name in files():
+            self.assertRegex(name, r"\A[a-z][a-z0-9_]*\.py\Z|\A__init__\.py\Z")
+        self.assertLessEqual(len(files()), 100)
+        self.assertEqual(source("__init__.py"), "")
+
+    def test_sizes_and_signs(self):
+        for name in files():
+            text = source(name)
+            self.assertLessEqual(len(text.split("\n")), 400, name)
+            for number, line in enumerate(text.split("\n")):
+                self.assertLessEqual(len(line), 120, (name, number))
+                self.assertRegex(line, r"\A[ -~]*\Z", (name, number))
+            if text:
+                self.assertTrue(text.endswith("\n") and not text.endswith("\n\n"), name)
+            for function in functions(tree(name)):
+                self.assertLessEqual(function.end_lineno - function.lineno + 1, 40, (name, function.name))
+
+    def test_barred_words(self):
+        for name in files():
+            for part in ast.walk(tree(name)):
+                if isinstance(part, ast.Name):
+                    self.assertNotRegex(part.id, BARRED_WORDS, name)
+                    self.assertNotIn(part.id, BARRED_EVERYWHERE, name)
+                if isinstance(part, ast.Attribute):
+                    self.assertNotRegex(part.attr, BARRED_WORDS, name)
+                    self.assertNotIn(part.attr, BARRED_EVERYWHERE, name)
+                if isinstance(part, (ast.FunctionDef, ast.ClassDef)):
+                    self.assertNotIn(part.name, BARRED_EVERYWHERE, name)
+                if isinstance(part, ast.arg):
+                    self.assertNotIn(part.arg, BARRED_EVERYWHERE, name)
+
+    def test_strings(self):
+        for name in files():
+            for part in ast.walk(tree(name)):
+                if isinstance(part, ast.Constant) and isinstance(part.value, str):
+                    self.assertNotIn("%", part.value, name)
+                    self.assertFalse(part.value.endswith(("._", ".__")), name)
+                    if "\n" not in part.value and " " not in part.value:
+                        self.assertNotRegex(part.value, BARRED_WORDS, name)
+
+
+class Imports(unittest.TestCase):
+    def test_forms(self):
+        for name in files():
+            seen = False
+            for at, part in enumerate(tree(name).body):
+                if isinstance(part, (ast.Import, ast.ImportFrom)):
+                    self.assertFalse(seen, name)
+                    self.assertIsInstance(part, ast.ImportFrom, name)
+                    self.assertEqual(part.level, 0, name)
+                    for alias in part.names:
+                        self.assertIsNone(alias.asname, name)
+                        if part.module in LIBRARY:
+                            self.assertIn(alias.name, LIBRARY[part.module], name)
+                        else:
+                            self.assertTrue(part.module.startswith("hitclocks."), name)
+                            self.assertIn(alias.name, self.defined(part.module[len("hitclocks."):] + ".py"), name)
+                elif not (at == 0 and isinstance(part, ast.Expr)):
+                    seen = True
+
+    def defined(self, name):
+        names = set()
+        for part in tree(name).body:
+            if isinstance(part, (ast.FunctionDef, ast.ClassDef)):
+                names.add(part.name)
+            if isinstance(part, ast.Assign):
+                names.add(part.targets[0].id)
+        return names
+
+    def test_imports_are_used_and_defined_ones_are_bound_once(self):
+        for name in files():
+            bound = []
+            used = {part.id for part in ast.walk(tree(name)) if isinstance(part, ast.Name)}
+            for part in tree(name).body:
+                if isinstance(part, ast.ImportFrom):
+                    for alias in part.names:
+                        bound.append(alias.name)
+                        self.assertIn(alias.name, used, name)
+                if isinstance(part, (ast.FunctionDef, ast.ClassDef)):
+                    bound.append(part.name)
+                if isinstance(part, ast.Assign):
+                    bound.append(part.targets[0].id)
+            self.assertEqual(len(bound), len(set(bound)), name)
+
+    def test_modules_import_only_earlier_ones(self):
+        reached = {}
+
+        def reach(module, path):
+            self.assertNotIn(module, path)
+            if module not in reached:
+                reached[module] = set()
+                for other in imports_of(module + ".py"):
+                    reached[module] |= {other} | reach(other, path + (module,))
+            return reached[module]
+
+        for name in files():
+            module = name[:-3]
+            for other in reach(module, ()):
+                if module in ORDER and other in ORDER:
+                    self.assertLess(ORDER.index(other), ORDER.index(module), (module, other))
+
+
+class Code(unittest.TestCase):
+    def test_module_level(self):
+        for name in files():
+            for at, part in enumerate(tree(name).body):
+                if isinstance(part, ast.Assign):
+                    self.assertEqual(len(part.targets), 1, name)
+                    self.assertIsInstance(part.targets[0], ast.Name, name)
+                    ast.literal_eval(part.value)
+                elif isinstance(part, ast.Expr):
+                    self.assertEqual(at, 0, name)
+                else:
+                    self.assertIsInstance(part, (ast.ImportFrom, ast.FunctionDef, ast.ClassDef), name)
+
+    def test_no_barred_nodes(self):
+        barred = (ast.Global, ast.AsyncFunctionDef, ast.Await, ast.Import, ast.GeneratorExp, ast.Div, ast.AnnAssign,
+                  ast.Starred, ast.MatMult, ast.Pow, ast.Try, ast.With, ast.SetComp, ast.Set, ast.Yield,
+                  ast.YieldFrom, ast.Nonlocal, ast.NamedExpr, ast.JoinedStr, ast.Match)
+        for name in files():
+            for part in ast.walk(tree(name)):
+                self.assertNotIsInstance(part, barred, (name, getattr(part, "lineno", 0)))
+                if isinstance(part, ast.Constant):
+                    self.assertNotIsInstance(part.value, (float, complex, bytes), name)
+                if isinstance(part, (ast.FunctionDef, ast.ClassDef)):
+                    self.assertEqual(part.decorator_list, [], (name, part.name))
+                if isinstance(part, ast.Compare):
+                    for sign, right in zip(part.ops, part.comparators):
+                        if isinstance(sign, (ast.Is, ast.IsNot)):
+                            self.assertIsInstance(right, ast.Constant, name)
+                            self.assertIn(right.value, (None, True, False), name)
+
+    def test_builtins(self):
+        python = set(dir(builtins))
+        for name in files():
+            for part in ast.walk(tree(name)):
+                if isinstance(part, ast.Name) and part.id in python:
+                    self.assertIn(part.id, ALLOWED_BUILTINS, (name, part.lineno))
+                    self.assertIsInstance(part.ctx, ast.Load, (name, part.lineno))
+                if isinstance(part, ast.arg):
+                    self.assertNotIn(part.arg, python, (name, part.arg))
+                if isinstance(part, (ast.FunctionDef, ast.ClassDef)) and not part.name.startswith("__"):
+                    self.assertNotIn(part.name, python, (name, part.name))
+
+    def test_local_names(self):
+        for name in files():
+            barred = set()
+            for part in tree(name).body:
+                if isinstance(part, ast.ImportFrom):
+                    barred |= {alias.name for alias in part.names}
+                if isinstance(part, ast.ClassDef):
+                    barred.add(part.name)
+            for function in functions(tree(name)):
+                self.assertEqual(bound_in(function) & barred, set(), (name, function.name))
+
+    def test_underscore_is_not_read(self):
+        for name in files():
+            for part in ast.walk(tree(name)):
+                if isinstance(part, ast.Name) and part.id == "_":
+                    self.assertIsInstance(part.ctx, ast.Store, name)
+
+    def test_attributes_and_methods(self):
+        methods, attributes, called = set(), set(), set()
+        python = set()
+        for value in ("", 0, [], {}, set(), b"", ()):
+            python |= {word for word in dir(value) if not word.startswith("__")}
+        for name in files():
+            for part in ast.walk(tree(name)):
+                if isinstance(part, ast.ClassDef):
+                    for item in part.body:
+                        if isinstance(item, ast.FunctionDef) and not item.name.startswith("__"):
+                            methods.add(item.name)
+                if isinstance(part, ast.Attribute) and isinstance(part.ctx, ast.Store):
+                    attributes.add(part.attr)
+                    self.assertIsInstance(part.value, ast.Name, (name, part.attr))
+                if isinstance(part, ast.Call) and isinstance(part.func, ast.Attribute):
+                    called.add(part.func.attr)
+        self.assertEqual(attributes & BARRED_ATTRIBUTES, set())
+        self.assertEqual((methods | attributes) & python, set())
+        self.assertEqual(methods & attributes, set())
+        self.assertEqual({word for word in called if not word.startswith("__")} - methods - BUILTIN_METHODS, set())
+
+    def test_sets_are_not_made(self):
+        for name in files():
+            for part in ast.walk(tree(name)):
+                if isinstance(part, ast.Call) and isinstance(part.func, ast.Name):
+                    self.assertNotIn(part.func.id, ("set", "frozenset", "map", "iter", "next", "sum"), name)
+
+    def test_each_function_has_a_docstring(self):
+        for name in files():
+            for function in functions(tree(name)):
+                if not function.name.startswith("__"):
+                    self.assertTrue(ast.get_docstring(function), (name, function.name))
+
+    def test_kept_ranges_and_views(self):
+        for name in files():
+            for part in ast.walk(tree(name)):
+                if isinstance(part, ast.Assign) and isinstance(part.value, ast.Call):
+                    func = part.value.func
+                    word = func.id if isinstance(func, ast.Name) else getattr(func, "attr", "")
+                    self.assertNotIn(word, ("range", "zip", "enumerate", "reversed", "items", "keys", "values"), name)
+
+
+if __name__ == "__main__":
+    unittest.main()
