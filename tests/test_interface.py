@@ -1,0 +1,59 @@
+"""The interface: modules, names, parameters, and what stands in the classes themselves."""
+
+import importlib
+import inspect
+import unittest
+
+CASE = "memory program start goals"
+INTERFACE = {
+    "memories": {"Memory": "letters moves", "stepped": "memory state letter", "read": "memory state word",
+                 "negated": "memory", "relettered": "memory names"},
+    "prices": {"is_price": "thing", "price_of": "p q", "is_ahead": "one other", "worth": "pair price", "amid": "one other",
+               "meeting": "one other"},
+    "fronts": {"is_front": "thing", "at_price": "front price", "corners_at": "front price", "front_of": "pairs",
+               "joined": "one other", "summed": "one other", "repeated": "front number", "any_times": "front",
+               "is_below": "one other"},
+    "unders": {"above": "front pair", "mix": "front pair", "is_mix": "front pair thing", "turning_prices": "fronts"},
+    "asking": {"by_asking": "asks"},
+    "caches": {"cache": "rule ways lines back", "held": "rule ways lines back state"},
+    "programs": {"Program": "procedures first", "letters_of": "program", "is_word_of": "program word",
+                 "words_of": "program most", "never": "program", "in_rings": "program", "turned_about": "program"},
+    "heads": {"heads": "program"},
+    "tales": {"told": "memory program tale", "is_tale": "memory program thing", "length_of": "memory program tale",
+              "word_told": "memory program tale most", "told_gap": "memory program tale"},
+    "dearest": {"most_at": CASE + " price", "dearest": CASE + " price"},
+    "papers": {"is_paper": "memory program price thing", "shown_most": CASE + " price paper", "paper": CASE + " price"},
+    "pumps": {"pump": CASE + " price", "is_pump": CASE + " price thing"},
+    "wholes": {"whole": CASE, "cheapest": CASE, "critical": "front"},
+    "showings": {"showing": CASE, "is_showing": CASE + " thing"},
+}
+METHODS = {("memories", "Memory"): ["__init__", "__len__", "__eq__"], ("programs", "Program"): ["__init__", "__eq__"]}
+
+
+class Interface(unittest.TestCase):
+    def test_names_and_parameters(self):
+        for module_name, names in INTERFACE.items():
+            module = importlib.import_module("hitclocks." + module_name)
+            for name, parameters in names.items():
+                thing = getattr(module, name)
+                self.assertEqual(thing.__module__, "hitclocks." + module_name, name)
+                found = inspect.signature(thing).parameters
+                self.assertEqual(list(found), parameters.split(), name)
+                for parameter in found.values():
+                    self.assertEqual(parameter.kind, inspect.Parameter.POSITIONAL_OR_KEYWORD)
+                    self.assertIs(parameter.default, inspect.Parameter.empty)
+
+    def test_methods_stand_in_the_classes(self):
+        for (module_name, name), methods in METHODS.items():
+            found = vars(getattr(importlib.import_module("hitclocks." + module_name), name))
+            for method in methods:
+                self.assertIn(method, found)
+
+    def test_the_package_defines_nothing(self):
+        package = importlib.import_module("hitclocks")
+        with open(package.__file__, encoding="utf-8") as file:
+            self.assertEqual(file.read(), "")
+
+
+if __name__ == "__main__":
+    unittest.main()
