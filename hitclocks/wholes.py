@@ -53,8 +53,6 @@ def whole(memory, program, start, goals):
 
 def cheapest(memory, program, start, goals):
     """The whole of the negated memory."""
-    check_case(memory, program, start, goals)
-    check_triples(memory, program)
     return whole(negated(memory), program, start, goals)
 
 

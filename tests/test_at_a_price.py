@@ -251,7 +251,8 @@ class Papers(unittest.TestCase):
         thing = (((F, 0, 0), (("h",), 0, 0)), {})
         self.assertIs(self.judge(simple_memory(), program, 0, (0,), (1, 1), thing), True)
         self.assertIsNone(shown_most(simple_memory(), program, 0, (0,), (1, 1), thing))
-        for wrong in [(((F, 0, 0),), {}), (((("h",), 0, 0), (F, 0, 0)), {}), (((F, 0, 0), (F, 0, 0), (("h",), 0, 0)), {})]:
+        for wrong in [(((F, 0, 0),), {}), (((("h",), 0, 0), (F, 0, 0)), {}), (((F, 0, 0), (F, 0, 0), (("h",), 0, 0)), {}),
+                      (thing[0], {(("h",), 0, 0): 5}), (thing[0], {(F, 0, 0): 0})]:
             self.assertIs(self.judge(simple_memory(), program, 0, (0,), (1, 1), wrong), False)
 
     def test_triples_of_which_no_run_is(self):
@@ -344,6 +345,34 @@ class Pumps(unittest.TestCase):
         self.assertIs(is_pump(memory, program, 0, (0,), (1, 1), (one, both, rest)), False)
         self.assertIs(is_pump(memory, program, 0, (0,), (1, 1), (one[:2], one, rest)), False)
         self.assertEqual(told_gap(memory, program, both)[-1][2], 2)
+
+    def test_counts_and_places_of_rounds_that_gain(self):
+        memory = Memory(("a", "b"), (((1, 2, 0), (0, 0, 0)), ((0, 2, 0), (1, 0, 0))))
+        program = Program({"f": ("either", (("then", (("any", ("call", "f")), A)), B)), "g": ("either", (("call", "f"), A))}, "f")
+
+        def of_f(state, loop):
+            return (F, state, ("either", 0, ("then", (("any", loop), ("read",)))))
+
+        loop = ("f", (0, 0))
+        gap = ("gap", F, 0, 0)
+        rest = ((F, 0, ("either", 1, ("read",))),)
+        # Twice the gap and two letters, from 0 to 0; then once; then not at all.
+        twice = (gap, (loop, 0, ("end",)), (loop, 0, ("more", ("call", 0), 1)), of_f(0, 2), (loop, 1, ("end",)),
+                 (loop, 0, ("more", ("call", 3), 4)), (loop, 0, ("more", ("call", 0), 5)), of_f(0, 6))
+        once = twice[:5] + ((loop, 0, ("more", ("call", 3), 4)), of_f(0, 5))
+        never = (gap, (loop, 0, ("end",)), of_f(0, 1), (loop, 1, ("end",)), (loop, 0, ("more", ("call", 2), 3)), of_f(0, 4))
+        self.assertEqual([told_gap(memory, program, lap)[-1] for lap in (twice, once, never)],
+                         [(0, (4, 0), 2), (0, (4, 0), 1), (0, (4, 0), 0)])
+        for way, lap, right in [(once, once, True), (once, twice, False), (once, never, False), (twice, once, True),
+                                (never, once, False), (once, once[:4], False), (once, once[:5], False), (once[:4], once, False)]:
+            self.assertIs(self.judge(memory, program, 0, (0,), (1, 1), (way, lap, rest)), right)
+        # Once the gap, the start and the end alike: but another head, or another end.
+        other = once + ((("g",), 0, ("either", 0, ("call", 6))),)
+        self.assertIs(self.judge(memory, program, 0, (0,), (1, 1), (once, other, rest)), False)
+        self.assertIs(self.judge(memory, program, 0, (0, 1), (1, 1), (once[:4], once[:4], rest)), False)
+        self.assertIs(self.judge(memory, program, 0, (0, 1), (1, 1), (once[:4], once, rest)), True)
+        self.assertIs(self.judge(memory, program, 0, (0,), (1, 1), (other, once, rest)), False)
+        self.assertIs(self.judge(memory, program, 0, (0,), (1, 1), (once, once, ((F, 1, ("either", 1, ("read",))),))), False)
 
     def test_any_values(self):
         for thing in any_values():

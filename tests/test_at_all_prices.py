@@ -1,6 +1,7 @@
 """[50] whole; [51] critical, cheapest, showing, is_showing; with [3], [4] and [5]."""
 
 import unittest
+from itertools import permutations
 
 from drawing import Drawing, any_values, both_ways, caught, simple_memory, simple_program, some_prices
 from hitclocks.caches import cache
@@ -88,6 +89,29 @@ def gains_fit(front, gains):
     if len(wanted) != len(gains):
         return False
     return all(worth(gained, price) == 0 and gained[side] > 0 for gained, (price, side) in zip(gains, wanted))
+
+
+def loops_of_pairs(pairs):
+    """A memory of one state with a letter for each pair, and a program of a loop over each letter."""
+    letters = tuple("abcdef"[:len(pairs)])
+    loops = Program({"f": ("then", tuple(("any", ("read", letter)) for letter in letters))}, "f")
+    return Memory(letters, (tuple((0,) + pair for pair in pairs),)), loops
+
+
+def once_round(many, at):
+    """The tale of a run of so many loops, one of which goes round once."""
+    ends = tuple((("f", (loop,)), 0, ("end",)) for loop in range(many))
+    plays = tuple(("any", many if loop == at else loop) for loop in range(many))
+    return ends + ((("f", (at,)), 0, ("more", ("read",), at)), (("f",), 0, ("then", plays)))
+
+
+def lap_pump(many, at):
+    """The pump of so many loops whose round is that of one of them."""
+    gap = ("gap", ("f", (at,)), 0, 0)
+    ends = tuple((("f", (loop,)), 0, ("end",)) for loop in range(many) if loop != at)
+    numbers = [loop for loop in range(many) if loop != at]
+    plays = tuple(("any", 0 if loop == at else 1 + numbers.index(loop)) for loop in range(many))
+    return (gap,) + ends + ((("f",), 0, ("then", plays)),), (gap, (gap[1], 0, ("more", ("read",), 0))), ((gap[1], 0, ("end",)),)
 
 
 class Whole(unittest.TestCase):
@@ -219,6 +243,55 @@ class Showings(unittest.TestCase):
         self.assertIs(self.judge(memory, loops, 0, (0,), {**shown, "pumps": both}), True)
         self.assertIs(self.judge(memory, loops, 0, (0,), {**shown, "pumps": both + both}), False)
         self.assertIs(self.judge(memory, loops, 0, (0,), {**shown, "pumps": []}), False)
+        memory, loops = loops_of_pairs([(1, 1), (-1, -1), (1, -9), (0, 0)])
+        for pumps, right in [((0,), True), ((0, 2), True), ((2, 0), True), ((0, 1), False), ((0, 3), False), ((2,), False)]:
+            thing = {"front": ("endless",), "runs": (), "papers": (), "pumps": [lap_pump(4, at) for at in pumps]}
+            self.assertIs(self.judge(memory, loops, 0, (0,), thing), right)
+
+    def test_endless_needs_a_gain_at_each_price(self):
+        for pairs, right in [([(1, -1), (-1, 1)], False), ([(1, 0), (0, -1)], False), ([(-1, 0), (0, 1)], False),
+                             ([(2, -1), (-1, 2)], True), ([(1, -1), (-1, 2)], True), ([(1, 0), (0, 1)], True)]:
+            memory, loops = loops_of_pairs(pairs)
+            laps = [lap_pump(2, 0), lap_pump(2, 1)]
+            for pumps in [laps, laps[::-1], laps[:1], laps[1:], []]:
+                thing = {"front": ("endless",), "runs": [], "papers": [], "pumps": pumps}
+                self.assertIs(self.judge(memory, loops, 0, (0,), thing), right and len(pumps) == 2)
+
+    def test_pumps_show_just_the_ends(self):
+        pairs = [(2, -3), (1, -3), (0, 0), (-3, 2), (-4, 1), (-1, -1)]
+        memory, loops = loops_of_pairs(pairs)
+        shown = showing(memory, loops, 0, (0,))
+        self.assertEqual(shown["front"], ("over", (3, 2), (2, 3), ((0, 0),)))
+        laps = [lap_pump(6, at) for at in range(6)]
+        for first, one in enumerate(laps):
+            for second, other in enumerate(laps):
+                right = self.judge(memory, loops, 0, (0,), {**shown, "pumps": [one, other]})
+                self.assertIs(right, (first, second) == (0, 3))
+            self.assertIs(self.judge(memory, loops, 0, (0,), {**shown, "pumps": [one]}), False)
+            self.assertIs(self.judge(memory, loops, 0, (0,), {**shown, "pumps": [laps[0], laps[3], one]}), False)
+
+    def test_runs_begin_and_end_where_they_should(self):
+        memory = Memory(("a", "b"), (((1, 1, 1), (0, 1, 1)), ((1, 1, 1), (0, 2, 2))))
+        program = Program({"f": ("either", (A, B)), "g": A}, "f")
+        shown = showing(memory, program, 0, (1,))
+        self.assertEqual(shown["front"], front_of([(1, 1)]))
+        for run, right in [((("f",), 0, ("either", 0, ("read",))), True), ((("f",), 0, ("either", 1, ("read",))), False),
+                           ((("f",), 1, ("either", 0, ("read",))), False), ((("g",), 0, ("read",)), False)]:
+            self.assertIs(self.judge(memory, program, 0, (1,), {**shown, "runs": [(run,)]}), right)
+
+    def test_the_run_at_one_price(self):
+        memory, loops = loops_of_pairs([(1, -1), (-1, 1), (-1, 0), (0, -1)])
+        shown = showing(memory, loops, 0, (0,))
+        self.assertEqual(shown["front"], ("at", (1, 1), 0))
+        for at, right in [(0, True), (1, True), (2, False), (3, False)]:
+            self.assertIs(self.judge(memory, loops, 0, (0,), {**shown, "runs": [once_round(4, at)]}), right)
+
+    def test_endless_by_many_gains(self):
+        for pairs in permutations([(1, -3), (1, -2), (1, -1), (-1, 2)]):
+            memory, loops = loops_of_pairs(pairs)
+            shown = showing(memory, loops, 0, (0,))
+            self.assertEqual((shown["front"], len(shown["pumps"])), (("endless",), 2))
+            self.assertIs(self.judge(memory, loops, 0, (0,), shown), True)
 
     def test_any_values(self):
         for thing in any_values():

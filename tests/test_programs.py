@@ -105,6 +105,15 @@ class Making(unittest.TestCase):
         self.assertEqual(Program({"f": ("times", 9, 9, ("times", 6, 6, ("then", (A,) * 6)))}, "f").first, "f")
         caught(self, BadProgram, {"part": "f"}, Program, {"f": ("times", 9, 9, ("times", 6, 6, LOAD_9))}, "f")
 
+    def test_loads_of_each_kind(self):
+        # Where the part's load is 1, these are 1 + 4 * 82 + 37 + 33 + 1.
+        for part in [NONE, A, ("call", "g"), ("any", of_load(400)), ("then", ()), ("either", ()), ("times", 0, 0, of_load(9))]:
+            right = ("then", (("times", 9, 9, ("either", (part,) * 8)),) * 4 + (
+                ("times", 9, 9, ("then", (part,) * 3)), ("times", 8, 8, ("either", (part,) * 3)), part))
+            wrong = right[:1] + (right[1][:-1] + (("then", (part,)),),)
+            self.assertEqual(Program({"f": right, "g": A}, "g").procedures["f"], right)
+            caught(self, BadProgram, {"part": "f"}, Program, {"f": wrong, "g": A}, "g")
+
     def test_least_name(self):
         caught(self, BadProgram, {"part": "b"}, Program, {"c": None, "b": ("call", "x"), "a": A, "d": of_load(500)}, None)
 
@@ -116,6 +125,7 @@ class Words(unittest.TestCase):
                 for function in (letters_of, never, in_rings, turned_about, heads):
                     caught(self, BadProgram, {"part": None}, function, thing)
                 caught(self, BadProgram, {"part": None}, is_word_of, thing, ())
+                caught(self, BadProgram, {"part": None}, is_word_of, thing, None)
                 caught(self, BadProgram, {"part": None}, words_of, thing, -1)
 
     def test_letters_of(self):

@@ -108,6 +108,9 @@ class Judged(unittest.TestCase):
             self.judge(simple_memory(), simple_program(), (ROUND[0], thing))
             self.judge(simple_memory(), simple_program(), ((("f",), 0, thing),))
             self.judge(simple_memory(), simple_program(), ((thing, 0, ("end",)),))
+            self.judge(MEMORY, PROGRAM, (((thing, (0,)), 0, ("end",)),))
+            self.judge(MEMORY, PROGRAM, ((("f", (thing,)), 0, ("end",)),))
+            self.judge(MEMORY, PROGRAM, ((("f", thing), 0, ("end",)),))
 
     def test_wrong_by_hand(self):
         memory, program = simple_memory(), simple_program()

@@ -80,6 +80,21 @@ class Unders(unittest.TestCase):
                     self.assertIsNone(shown)
         self.assertGreater(mixes, 100)
 
+    def test_mixes_of_many_corners(self):
+        places = set()
+        corners = [(20 - at * (at + 1) // 2, 8 * at - at * (at + 1) // 2) for at in range(6)]
+        for front in [front_of(corners), ("over", (9, 1), (1, 9), front_of(corners)[3])]:
+            self.assertEqual(at_price(front, (1, 1)), max(a + b for a, b in corners))
+            for a in range(-2, 21):
+                for b in range(0, 26):
+                    shown = mix(front, (a, b))
+                    self.assertIs(shown is None, above(front, (a, b)) is not None)
+                    if shown is not None:
+                        self.assertTrue(mix_by_definition(front, (a, b), shown))
+                        self.assertIs(is_mix(front, (a, b), shown), True)
+                        places.add(shown[1:] if shown[2] == 0 else shown[1])
+        self.assertGreater(len(places), 8)
+
     def test_is_mix_is_judged_by_two_sums(self):
         for front in [ENDS, STRETCH, THREE]:
             for pair in [(1, 1), (0, 0), (2, 1), (1, 2), (3, -1)]:
