@@ -1,6 +1,7 @@
 """Programs written out as symbols: each one has few and short ways to be done."""
 
-from hitclocks.bodies import heads_in
+from hitclocks.bodies import bodies_of_heads, placed_parts
+from hitclocks.folds import folded
 
 
 class Grammar:
@@ -11,7 +12,7 @@ class Grammar:
     """
 
     def __init__(self, procedures):
-        self.heads = heads_in(procedures)
+        self.heads = list(bodies_of_heads(procedures))
         self.numbers = {}
         self.empties = []
         self.letters = []
@@ -22,8 +23,11 @@ class Grammar:
             self.numbers[head] = number
             self.added(None)
         for name, body in procedures.items():
-            root = self.placed(body, name, ())
-            self.units[self.numbers[(name,)]] = (root,)
+            self.units[self.numbers[(name,)]] = (self.root_of(name, body),)
+
+    def root_of(self, name, body):
+        """The symbol of the body of a procedure, all its parts placed, too."""
+        return folded(((), body), placed_parts, lambda node, parts: self.placed(name, node[0], node[1], parts))
 
     def added(self, shape):
         """A new symbol that can be done in no way yet."""
@@ -34,23 +38,22 @@ class Grammar:
         self.shapes.append(shape)
         return len(self.shapes) - 1
 
-    def placed(self, body, name, path):
-        """The symbol of a body at this place, all its parts placed, too."""
+    def placed(self, name, path, body, parts):
+        """The symbol of a body at this place, whose parts have these symbols."""
         tag = body[0]
         if tag == "call":
             return self.numbers[(body[1],)]
         if tag == "any":
             head = self.numbers[(name, path)]
             self.empties[head] = True
-            self.pairs[head] = (self.placed(body[1], name, path + (0,)), head)
+            self.pairs[head] = (parts[0], head)
             return head
         if tag == "times":
-            return self.placed_times(body, self.placed(body[3], name, path + (0,)))
-        if tag == "then" or tag == "either":
-            parts = []
-            for index, part in enumerate(body[1]):
-                parts.append(self.placed(part, name, path + (index,)))
-            return self.placed_then(parts) if tag == "then" else self.placed_either(parts)
+            return self.placed_times(body, parts[0])
+        if tag == "then":
+            return self.placed_then(parts)
+        if tag == "either":
+            return self.placed_either(parts)
         symbol = self.added((tag,))
         if tag == "read":
             self.letters[symbol] = body[1]

@@ -1,6 +1,6 @@
 """Programs: procedures with choices and loops, and their words."""
 
-from hitclocks.bodies import MOST_LOAD, load_of, said_in, turned
+from hitclocks.bodies import are_same, is_body, is_heavy, said_in, turned
 from hitclocks.errors import BadNumber, BadProgram, NoLetter, TooMany
 from hitclocks.grammars import Grammar
 from hitclocks.kinds import is_name, is_number_from
@@ -18,11 +18,28 @@ class Program:
         check_procedures(procedures)
         if not isinstance(first, str) or first not in procedures:
             raise BadProgram("first")
-        self.procedures = in_key_order(procedures)
+        self._bodies = in_key_order(procedures)
         self.first = first
 
+    @property
+    def procedures(self):
+        """A new dict of the bodies each time, so that what a caller does to it changes no program."""
+        return {name: self._bodies[name] for name in self._bodies}
+
     def __eq__(self, other):
-        return isinstance(other, Program) and self.first == other.first and self.procedures == other.procedures
+        if not isinstance(other, Program):
+            return False
+        return self.first == other.first and are_same_procedures(self._bodies, other._bodies)
+
+
+def are_same_procedures(one, other):
+    """Whether two dicts have the same names, with equal bodies."""
+    if list(one) != list(other):
+        return False
+    for name in one:
+        if not are_same(one[name], other[name]):
+            return False
+    return True
 
 
 def check_procedures(procedures):
@@ -33,8 +50,7 @@ def check_procedures(procedures):
         if not is_name(name):
             raise BadProgram(None)
     for name in sorted(procedures):
-        load = load_of(procedures[name], procedures)
-        if load is None or load > MOST_LOAD:
+        if not is_body(procedures[name], procedures) or is_heavy(procedures[name]):
             raise BadProgram(name)
 
 
@@ -49,7 +65,7 @@ def in_key_order(table):
 def made_program(procedures, first):
     """The Program with these procedures, whatever their loads are."""
     made = Program({"x": ("none",)}, "x")
-    made.procedures = in_key_order(procedures)
+    made._bodies = in_key_order(procedures)
     made.first = first
     return made
 

@@ -3,6 +3,8 @@
 An item is a number for a symbol, a state and an end; a record tells one way to do an item by earlier records.
 """
 
+from hitclocks.folds import folded
+
 NO_RECORD = -1
 
 
@@ -97,23 +99,33 @@ def entry_of(records, record, numbers, is_gap):
 
 def play_of(records, record, numbers):
     """The play of a record of a place in a body."""
+    return folded(
+        record,
+        lambda part: played_in(records, part),
+        lambda whole, plays: play_by(records, whole, plays, numbers))
+
+
+def played_in(records, record):
+    """The list of the records of the parts that the play of a record plays."""
+    if records.head_of(record) is not None:
+        return []
+    shape = records.grammar.shapes[records.symbol_of(record)]
+    if shape[0] == "either":
+        return [records.lefts[record]]
+    if shape[0] == "then":
+        return parts_in_order(records, record, len(shape[1]))
+    return rounds_in_order(records, record) if shape[0] == "times" else []
+
+
+def play_by(records, record, plays, numbers):
+    """The play of a record, the plays of its parts being known."""
     head = records.head_of(record)
     if head is not None:
         return ("call" if len(head) == 1 else "any", numbers[record])
     shape = records.grammar.shapes[records.symbol_of(record)]
     if shape[0] == "either":
-        part = records.lefts[record]
-        return ("either", shape[1].index(records.symbol_of(part)), play_of(records, part, numbers))
-    if shape[0] == "then":
-        return ("then", plays_of(records, parts_in_order(records, record, len(shape[1])), numbers))
-    if shape[0] == "times":
-        return ("times", plays_of(records, rounds_in_order(records, record), numbers))
-    return (shape[0],)
-
-
-def plays_of(records, parts, numbers):
-    """The tuple of the plays of some records."""
-    return tuple([play_of(records, part, numbers) for part in parts])
+        return ("either", shape[1].index(records.symbol_of(records.lefts[record])), plays[0])
+    return (shape[0], tuple(plays)) if shape[0] in ("then", "times") else (shape[0],)
 
 
 def parts_in_order(records, record, many):

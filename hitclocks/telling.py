@@ -1,6 +1,6 @@
 """What the entries of a tale tell, one after another."""
 
-from hitclocks.bodies import bodies_in
+from hitclocks.bodies import bodies_of_heads
 from hitclocks.kinds import is_number, is_number_from, is_tagged, is_tuple_of
 from hitclocks.memories import columns_of, is_state
 
@@ -31,25 +31,17 @@ class Teller:
 
     def __init__(self, memory, program):
         self.memory = memory
-        self.procedures = program.procedures
         self.columns = columns_of(memory)
-        self.loops = {}
+        self.bodies = bodies_of_heads(program.procedures)
         self.runs = []
-        for name, body in program.procedures.items():
-            for path, here in bodies_in(body):
-                if here[0] == "any":
-                    self.loops[(name, path)] = here[1]
 
     def is_head(self, thing):
         """Whether any value is a head of the program."""
-        if is_tuple_of(thing, 1):
-            return isinstance(thing[0], str) and thing[0] in self.procedures
-        if not is_tuple_of(thing, 2) or not isinstance(thing[0], str) or not isinstance(thing[1], tuple):
+        if not isinstance(thing, tuple) or not 1 <= len(thing) <= 2 or not isinstance(thing[0], str):
             return False
-        for index in thing[1]:
-            if not is_number(index):
-                return False
-        return thing in self.loops
+        if len(thing) == 2 and not is_path(thing[1]):
+            return False
+        return thing in self.bodies
 
     def take_gap(self, thing):
         """Takes any value as a gap; whether it is one."""
@@ -69,10 +61,7 @@ class Teller:
             return False
         head, state, play = thing
         run = Told(head, state)
-        if len(head) == 1:
-            fits = self.follows(run, self.procedures[head[0]], (), play)
-        else:
-            fits = self.follows_loop(run, play)
+        fits = self.follows(run, (), play) if len(head) == 1 else self.follows_loop(run, play)
         if fits:
             self.runs.append(run)
         return fits
@@ -81,10 +70,9 @@ class Teller:
         """Whether a play is one of a loop from where the run ended; the run goes on by it."""
         if is_tagged(play, "end", 1):
             return True
-        if not is_tagged(play, "more", 3):
+        if not is_tagged(play, "more", 3) or not self.follows(run, run.head[1] + (0,), play[1]):
             return False
-        path = run.head[1] + (0,)
-        return self.follows(run, self.loops[run.head], path, play[1]) and self.follows_entry(run, run.head, play[2])
+        return self.follows_entry(run, run.head, play[2])
 
     def follows_entry(self, run, head, number):
         """Whether a number is that of an entry of this head from where the run ended; the run goes on by it."""
@@ -96,26 +84,30 @@ class Teller:
         run.follow(other)
         return True
 
-    def follows(self, run, body, path, play):
-        """Whether a play is one of the body from where the run ended; the run goes on by it."""
+    def follows(self, run, path, play):
+        """Whether a play is one of the body of the run's head from where the run ended; the run goes on by it."""
+        waiting = [(self.bodies[run.head], path, play)]
+        while waiting:
+            body, here, part_play = waiting.pop()
+            if body[0] in ("none", "read", "call", "any"):
+                if not self.follows_leaf(run, body, here, part_play):
+                    return False
+            else:
+                parts = played_parts(body, here, part_play)
+                if parts is None:
+                    return False
+                waiting.extend(parts[::-1])
+        return True
+
+    def follows_leaf(self, run, body, path, play):
+        """As follows, of a body that is played without plays of parts."""
         tag = body[0]
         if tag == "none":
             return is_tagged(play, "none", 1)
         if tag == "read":
             return is_tagged(play, "read", 1) and self.follows_letter(run, body[1])
-        if tag == "call":
-            return is_tagged(play, "call", 2) and self.follows_entry(run, (body[1],), play[1])
-        if tag == "any":
-            return is_tagged(play, "any", 2) and self.follows_entry(run, (run.head[0], path), play[1])
-        if tag == "either":
-            if not is_tagged(play, "either", 3) or not is_number_from(play[1], 0, len(body[1]) - 1):
-                return False
-            return self.follows(run, body[1][play[1]], path + (play[1],), play[2])
-        if not is_tagged(play, tag, 2) or not isinstance(play[1], tuple):
-            return False
-        if tag == "times":
-            return body[1] <= len(play[1]) <= body[2] and self.follows_rounds(run, body[3], path + (0,), play[1])
-        return len(play[1]) == len(body[1]) and self.follows_parts(run, body[1], path, play[1])
+        head = (body[1],) if tag == "call" else (run.head[0], path)
+        return is_tagged(play, tag, 2) and self.follows_entry(run, head, play[1])
 
     def follows_letter(self, run, letter):
         """Goes on by a letter, which is always possible."""
@@ -126,19 +118,32 @@ class Teller:
         run.length += 1
         return True
 
-    def follows_rounds(self, run, body, path, plays):
-        """Whether each play is one of the body; the run goes on by them."""
-        for play in plays:
-            if not self.follows(run, body, path, play):
-                return False
-        return True
 
-    def follows_parts(self, run, parts, path, plays):
-        """Whether each play is one of the part in its place; the run goes on by them."""
-        for index, part in enumerate(parts):
-            if not self.follows(run, part, path + (index,), plays[index]):
-                return False
-        return True
+def is_path(thing):
+    """Whether any value is a tuple of numbers."""
+    if not isinstance(thing, tuple):
+        return False
+    for index in thing:
+        if not is_number(index):
+            return False
+    return True
+
+
+def played_parts(body, path, play):
+    """The list of the parts that a play of a body plays, each with its path and its play; None if it is none."""
+    tag = body[0]
+    if tag == "either":
+        if not is_tagged(play, "either", 3) or not is_number_from(play[1], 0, len(body[1]) - 1):
+            return None
+        return [(body[1][play[1]], path + (play[1],), play[2])]
+    if not is_tagged(play, tag, 2) or not isinstance(play[1], tuple):
+        return None
+    if tag == "times":
+        fits = body[1] <= len(play[1]) <= body[2]
+        return [(body[3], path + (0,), part) for part in play[1]] if fits else None
+    if len(play[1]) != len(body[1]):
+        return None
+    return [(part, path + (index,), play[1][index]) for index, part in enumerate(body[1])]
 
 
 def runs_told(memory, program, thing, with_gap):

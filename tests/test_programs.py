@@ -49,10 +49,34 @@ class Making(unittest.TestCase):
         procedures["h"] = NONE
         self.assertEqual(program.procedures, {"f": ("call", "g"), "g": A})
 
+    def test_a_new_dict_each_time(self):
+        first = Program({"g": A, "f": ("then", (A, B))}, "f")
+        for program in (first, turned_about(first), turned_about(turned_about(first))):
+            kept = list(program.procedures.items())
+            for _ in range(2):
+                told = program.procedures
+                self.assertIsNot(told, program.procedures)
+                self.assertEqual(list(told.items()), kept)
+                told["f"] = B
+                told["late"] = NONE
+                del told["g"]
+            self.assertEqual(list(program.procedures.items()), kept)
+            self.assertEqual(program, Program(dict(kept), "f"))
+            self.assertEqual(letters_of(program), ("a", "b"))
+            self.assertEqual(heads(program), [("f",), ("g",)])
+        self.assertEqual(first, turned_about(turned_about(first)))
+        self.assertNotEqual(first, turned_about(first))
+
     def test_equal(self):
         self.assertEqual(Program({"f": A, "g": B}, "f"), Program({"g": B, "f": A}, "f"))
         self.assertNotEqual(Program({"f": A, "g": B}, "f"), Program({"f": A, "g": B}, "g"))
         self.assertNotEqual(Program({"f": A}, "f"), Program({"f": B}, "f"))
+        different = [NONE, A, B, ("then", ()), ("either", ()), ("then", (A,)), ("then", (A, A)), ("then", (A, B)), ("either", (A, B)),
+                     ("times", 0, 2, A), ("times", 1, 2, A), ("times", 0, 1, A), ("times", 0, 2, B), ("any", A), ("any", B),
+                     ("call", "f"), ("call", "g"), ("any", ("call", "f")), ("any", ("any", A)), ("then", (("any", A),))]
+        for one in different:
+            for other in different:
+                self.assertIs(Program({"f": one, "g": A}, "f") == Program({"f": other, "g": A}, "f"), one is other)
         for thing in any_values():
             if not isinstance(thing, Program):
                 self.assertFalse(simple_program() == thing)
