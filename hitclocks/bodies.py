@@ -161,6 +161,25 @@ def bodies_of_heads(procedures):
     return ordered
 
 
+def is_path(thing):
+    """Whether any value is a tuple of numbers."""
+    if not isinstance(thing, tuple):
+        return False
+    for index in thing:
+        if not is_number(index):
+            return False
+    return True
+
+
+def is_head_in(thing, bodies):
+    """Whether any value is one of the heads that have these bodies."""
+    if not isinstance(thing, tuple) or not 1 <= len(thing) <= 2 or not isinstance(thing[0], str):
+        return False
+    if len(thing) == 2 and not is_path(thing[1]):
+        return False
+    return thing in bodies
+
+
 def turned(body):
     """The body in which the parts of each "then" stand the other way about."""
     return folded(body, parts_of, turned_by_parts)
@@ -179,3 +198,8 @@ def changed(body, leaf):
 def changed_here(here, parts, leaf):
     """What leaf tells of a read or a call; any other body with these parts."""
     return leaf(here) if here[0] in ("read", "call") else with_parts(here, parts)
+
+
+def renamed(body, names):
+    """The body in which the procedures that are called are called so."""
+    return changed(body, lambda leaf: ("call", names[leaf[1]]) if leaf[0] == "call" else leaf)

@@ -2,8 +2,8 @@
 
 from hitclocks.errors import BadFront, BadNumber, BadPairs, BadPrice
 from hitclocks.kinds import is_list, is_number, is_number_from, is_pair, is_tagged
-from hitclocks.lines import AHEAD_OF_ALL, BEHIND_ALL, added_pairs, best_corners, crossing, goes_ahead
-from hitclocks.lines import greatest_worth, reduced, worth_at
+from hitclocks.lines import AHEAD_OF_ALL, BEHIND_ALL, best_corners, goes_ahead, greatest_worth, reduced
+from hitclocks.lines import summed_corners, trimmed, worth_at
 from hitclocks.prices import is_price
 
 ENDLESS = ("endless",)
@@ -122,9 +122,14 @@ def joined(one, other):
     """At each price the greater one of what two fronts tell."""
     check_front(one)
     check_front(other)
+    return join_of(one, other)
+
+
+def join_of(one, other):
+    """As joined, without checks."""
     if one is None:
         return other
-    if other is None:
+    if other is None or one == other:
         return one
     if one == ENDLESS or other == ENDLESS:
         return ENDLESS
@@ -140,6 +145,11 @@ def summed(one, other):
     """At each price the sum of what two fronts tell."""
     check_front(one)
     check_front(other)
+    return sum_of(one, other)
+
+
+def sum_of(one, other):
+    """As summed, without checks."""
     if one is None or other is None:
         return None
     if one == ENDLESS or other == ENDLESS:
@@ -148,29 +158,8 @@ def summed(one, other):
     if low == high:
         return ("at", low, told_at(one, low) + told_at(other, low))
     if goes_ahead(low, high):
-        return ("over", low, high, summed_corners(best_corners(one[3], low, high), best_corners(other[3], low, high)))
+        return ("over", low, high, summed_corners(trimmed(one[3], low, high), trimmed(other[3], low, high)))
     return ENDLESS
-
-
-def summed_corners(ones, others):
-    """The corners of the sum of two rows of corners over one stretch."""
-    first = second = 0
-    corners = [added_pairs(ones[0], others[0])]
-    while first + 1 < len(ones) or second + 1 < len(others):
-        if second + 1 == len(others):
-            first += 1
-        elif first + 1 == len(ones):
-            second += 1
-        else:
-            one = crossing(ones[first], ones[first + 1])
-            other = crossing(others[second], others[second + 1])
-            # Both go on where they meet their next ones at one price: between there is no corner of the sum.
-            if not goes_ahead(other, one):
-                first += 1
-            if not goes_ahead(one, other):
-                second += 1
-        corners.append(added_pairs(ones[first], others[second]))
-    return tuple(corners)
 
 
 def repeated(front, number):
@@ -191,6 +180,11 @@ def repeated(front, number):
 def any_times(front):
     """At each price the greatest that a front, repeated any number of times, tells."""
     check_front(front)
+    return star_of(front)
+
+
+def star_of(front):
+    """As any_times, without checks."""
     if front is None:
         return ZERO
     if front == ENDLESS:

@@ -1,11 +1,11 @@
 """Papers of all kinds: whether any value is one by its form, and whether it holds."""
 
+from hitclocks.bodies import bodies_of_heads, is_head_in
 from hitclocks.grammars import Grammar
 from hitclocks.kinds import is_ascending, is_tuple_of
 from hitclocks.lines import worth_at
 from hitclocks.memories import is_state
 from hitclocks.sums import Sums
-from hitclocks.telling import Teller
 
 
 def ranked_steps(memory, price, rank):
@@ -23,12 +23,12 @@ def is_paper_by_form(memory, program, thing, is_value):
     """Whether any value is an ascending tuple of triples, and a dict from others to what is_value takes."""
     if not is_tuple_of(thing, 2) or not isinstance(thing[0], tuple) or not isinstance(thing[1], dict):
         return False
-    teller = Teller(memory, program)
+    bodies = bodies_of_heads(program.procedures)
     for triple in thing[0]:
-        if not is_triple(teller, memory, triple):
+        if not is_triple(bodies, memory, triple):
             return False
     for triple, value in thing[1].items():
-        if not is_triple(teller, memory, triple) or not is_value(value):
+        if not is_triple(bodies, memory, triple) or not is_value(value):
             return False
     if not is_ascending(thing[0]):
         return False
@@ -38,9 +38,9 @@ def is_paper_by_form(memory, program, thing, is_value):
     return True
 
 
-def is_triple(teller, memory, thing):
+def is_triple(bodies, memory, thing):
     """Whether any value is a triple of a head and two states."""
-    if not is_tuple_of(thing, 3) or not teller.is_head(thing[0]):
+    if not is_tuple_of(thing, 3) or not is_head_in(thing[0], bodies):
         return False
     return is_state(memory, thing[1]) and is_state(memory, thing[2])
 

@@ -55,12 +55,16 @@ def in_price_order(prices):
 
 def best_corners(pairs, low, high):
     """The corners of the greatest worth of the pairs, strictly between two prices, those ahead first."""
-    corners = hull(pairs)
+    return trimmed(hull(pairs), low, high)
+
+
+def trimmed(corners, low, high):
+    """The corners that are best strictly between two prices, of ones that are so between prices further apart."""
     first = 0
     last = len(corners) - 1
-    while first < last and not goes_ahead(low, crossing(corners[first], corners[first + 1])):
+    while first < last and worth_at(corners[first], low) <= worth_at(corners[first + 1], low):
         first += 1
-    while first < last and not goes_ahead(crossing(corners[last - 1], corners[last]), high):
+    while first < last and worth_at(corners[last], high) <= worth_at(corners[last - 1], high):
         last -= 1
     return tuple(corners[first:last + 1])
 
@@ -79,8 +83,39 @@ def hull(pairs):
 
 
 def is_needed(before, corner, behind):
-    """Whether a corner alone is best somewhere between its neighbours."""
-    return goes_ahead(crossing(before, corner), crossing(corner, behind))
+    """Whether a corner alone is best somewhere between its neighbours: it meets the first one ahead of the other."""
+    ahead = (corner[1] - before[1]) * (corner[0] - behind[0])
+    return ahead > (behind[1] - corner[1]) * (before[0] - corner[0])
+
+
+def summed_corners(ones, others):
+    """The corners of the sum of two rows of corners over one stretch."""
+    if len(others) == 1:
+        a, b = others[0]
+        return tuple([(one[0] + a, one[1] + b) for one in ones])
+    first = second = 0
+    corners = [added_pairs(ones[0], others[0])]
+    while first + 1 < len(ones) or second + 1 < len(others):
+        if second + 1 == len(others):
+            first += 1
+        elif first + 1 == len(ones):
+            second += 1
+        else:
+            one = slope(ones, first)
+            other = slope(others, second)
+            # Both go on where they meet their next ones at one price: between there is no corner of the sum.
+            if not goes_ahead(other, one):
+                first += 1
+            if not goes_ahead(one, other):
+                second += 1
+        corners.append(added_pairs(ones[first], others[second]))
+    return tuple(corners)
+
+
+def slope(corners, at):
+    """The price at which a corner and the next one meet, perhaps with a common divisor."""
+    one, other = corners[at], corners[at + 1]
+    return (other[1] - one[1], one[0] - other[0])
 
 
 def neighbours_meet(corners):

@@ -70,6 +70,14 @@ def made_program(procedures, first):
     return made
 
 
+def first_free(sign, taken):
+    """The first of the names of this sign and a number, from 0 on, that is not taken."""
+    number = 0
+    while sign + str(number) in taken:
+        number += 1
+    return sign + str(number)
+
+
 def check_program(program):
     """BadProgram(None) unless it is a Program."""
     if not isinstance(program, Program):

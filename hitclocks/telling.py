@@ -1,7 +1,7 @@
 """What the entries of a tale tell, one after another."""
 
-from hitclocks.bodies import bodies_of_heads
-from hitclocks.kinds import is_number, is_number_from, is_tagged, is_tuple_of
+from hitclocks.bodies import bodies_of_heads, is_head_in
+from hitclocks.kinds import is_number_from, is_tagged, is_tuple_of
 from hitclocks.memories import columns_of, is_state
 
 
@@ -35,17 +35,9 @@ class Teller:
         self.bodies = bodies_of_heads(program.procedures)
         self.runs = []
 
-    def is_head(self, thing):
-        """Whether any value is a head of the program."""
-        if not isinstance(thing, tuple) or not 1 <= len(thing) <= 2 or not isinstance(thing[0], str):
-            return False
-        if len(thing) == 2 and not is_path(thing[1]):
-            return False
-        return thing in self.bodies
-
     def take_gap(self, thing):
         """Takes any value as a gap; whether it is one."""
-        if not is_tagged(thing, "gap", 4) or not self.is_head(thing[1]):
+        if not is_tagged(thing, "gap", 4) or not is_head_in(thing[1], self.bodies):
             return False
         if not is_state(self.memory, thing[2]) or not is_state(self.memory, thing[3]):
             return False
@@ -57,7 +49,7 @@ class Teller:
 
     def take(self, thing):
         """Takes any value as the next entry; whether it is one."""
-        if not is_tuple_of(thing, 3) or not self.is_head(thing[0]) or not is_state(self.memory, thing[1]):
+        if not is_tuple_of(thing, 3) or not is_head_in(thing[0], self.bodies) or not is_state(self.memory, thing[1]):
             return False
         head, state, play = thing
         run = Told(head, state)
@@ -117,16 +109,6 @@ class Teller:
         run.second += b
         run.length += 1
         return True
-
-
-def is_path(thing):
-    """Whether any value is a tuple of numbers."""
-    if not isinstance(thing, tuple):
-        return False
-    for index in thing:
-        if not is_number(index):
-            return False
-    return True
 
 
 def played_parts(body, path, play):
