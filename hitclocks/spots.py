@@ -4,7 +4,8 @@ from hitclocks.bodies import bodies_of_heads
 from hitclocks.errors import BadNumber, TooMany
 from hitclocks.kinds import is_number, is_number_from
 from hitclocks.leaves import needed_entries
-from hitclocks.lines import AHEAD_OF_ALL, BEHIND_ALL, added_pairs, best_corners, greatest_worth, summed_corners, worth_at
+from hitclocks.lines import AHEAD_OF_ALL, BEHIND_ALL, added_pairs, best_corners, greatest_worth, summed_corners
+from hitclocks.lines import worth_at
 from hitclocks.memories import columns_of
 from hitclocks.prices import check_price
 from hitclocks.tales import checked_runs
@@ -17,9 +18,9 @@ class Walker:
     """Goes along the run of the last entry of a tale, by letters and by whole entries."""
 
     def __init__(self, memory, program, tale):
+        self.runs = checked_runs(memory, program, tale, False)
         self.memory = memory
         self.columns = columns_of(memory)
-        self.runs = checked_runs(memory, program, tale, False)
         self.last = len(tale) - 1
         self.length = self.runs[self.last].length
         self.leaves = needed_entries(bodies_of_heads(program.procedures), tale, self.runs)

@@ -10,7 +10,7 @@ def put_summed(row, others, front):
 
 
 class Unknowns:
-    """For each unknown a row, the dict from unknowns to what is paid beside them, and the front without any of these."""
+    """For each unknown the dict from unknowns to what is paid beside them, and the front without any of these."""
 
     def __init__(self, rows, fronts):
         self.rows = rows

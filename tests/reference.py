@@ -1,6 +1,7 @@
 """What the document says of words, tales, papers and runs, by its words: slow, and apart from the package."""
 
 INFINITE = float("inf")
+SCALE = 10 ** 40
 
 
 class Wrong(Exception):
@@ -201,7 +202,16 @@ def union(left, right):
     return found
 
 
-def productions(memory, program, price, table):
+def step_worth(price, a, b):
+    return price[0] * a + price[1] * b
+
+
+def short_worth(price, a, b):
+    """As one number a worth and a length: of the same worth the one of less length is greater."""
+    return step_worth(price, a, b) * SCALE - 1
+
+
+def productions(memory, program, price, table, step=step_worth):
     """For each head the dict from (state, end) to what its productions can do, heads being worth what a table has."""
     loops = loops_of(program)
     unit = {(state, state): 0 for state in range(len(memory))}
@@ -212,7 +222,7 @@ def productions(memory, program, price, table):
             return unit
         if tag == "read":
             column = memory.letters.index(body[1])
-            return {(state, row[column][0]): price[0] * row[column][1] + price[1] * row[column][2]
+            return {(state, row[column][0]): step(price, row[column][1], row[column][2])
                     for state, row in enumerate(memory.moves)}
         if tag == "call":
             return table[(body[1],)]
@@ -237,14 +247,14 @@ def productions(memory, program, price, table):
     return told
 
 
-def worths(memory, program, price):
+def worths(memory, program, price, step=step_worth):
     """For each head the dict from (state, end) to the greatest worth of its runs, INFINITE without a bound."""
     table = {head: {} for head in heads_of(program)}
     triples = len(table) * len(memory) ** 2
     rounds = 0
     while True:
         rounds += 1
-        now = productions(memory, program, price, table)
+        now = productions(memory, program, price, table, step)
         changed = False
         for head in table:
             for place, value in now[head].items():
@@ -266,7 +276,159 @@ def most(memory, program, start, goals, price, known=None):
     return "endless" if max(found) == INFINITE else max(found)
 
 
-def is_paper(memory, program, price, thing):
+def lettered_productions(lettering, program, price, table):
+    """For each head the dict from (s, t) to what its productions cost at a price, None without any way left out."""
+    from hitclocks.fronts import at_price
+    rows = len(next(iter(lettering.values())))
+    loops = loops_of(program)
+    unit = {(s, s): 0 for s in range(rows)}
+
+    def number(front):
+        return INFINITE if at_price(front, price) == "endless" else at_price(front, price)
+
+    def of(name, body, path):
+        tag = body[0]
+        if tag == "none":
+            return unit
+        if tag == "read":
+            found = {(s, t): number(front) for s, row in enumerate(lettering[body[1]]) for t, front in enumerate(row)}
+            return {place: value for place, value in found.items() if value is not None}
+        if tag == "call":
+            return table[(body[1],)]
+        if tag == "any":
+            return table[(name, path)]
+        found = unit if tag == "then" else {}
+        if tag == "times":
+            inner, layer = of(name, body[3], path + (0,)), unit
+            for many in range(body[2] + 1):
+                if many >= body[1]:
+                    found = union(found, layer)
+                layer = product(layer, inner)
+            return found
+        for index, part in enumerate(body[1]):
+            inner = of(name, part, path + (index,))
+            found = product(found, inner) if tag == "then" else union(found, inner)
+        return found
+
+    told = {(name,): of(name, body, ()) for name, body in program.procedures.items()}
+    for head, body in loops.items():
+        told[head] = union(unit, product(of(head[0], body, head[1] + (0,)), table[head]))
+    return told
+
+
+def lettered_costs(lettering, program, price):
+    """For each head the dict from (s, t) to the most that heights tells at a price, INFINITE without a bound."""
+    table = {head: {} for head in heads_of(program)}
+    unknowns = len(table) * len(next(iter(lettering.values()))) ** 2
+    rounds = 0
+    while True:
+        rounds += 1
+        now = lettered_productions(lettering, program, price, table)
+        if now == table:
+            return table
+        if rounds > unknowns + 1:
+            for head in table:
+                for place, value in now[head].items():
+                    if table[head].get(place) != value:
+                        now[head] = {**now[head], place: INFINITE}
+        table = now
+
+
+def ordered_worths(memory, program, price, most):
+    """For each (head, order), order up to most, the dict from (s, t) to the greatest worth of runs of just this order."""
+    loops = loops_of(program)
+    many = len(memory)
+    unit = {(s, s, 0, 0): 0 for s in range(many)}
+
+    def put(found, place, value):
+        if found.get(place, -INFINITE) < value:
+            found[place] = value
+
+    def behind_all(left, right):
+        found = {}
+        for (s, mid, order, count), value in left.items():
+            for (middle, t, other, others), more in right.items():
+                if mid == middle:
+                    top = max(order, other)
+                    named = min(2, (count if order == top else 0) + (others if other == top else 0))
+                    put(found, (s, t, top, named), value + more)
+        return found
+
+    def named(table, head):
+        found = {}
+        for order in range(1, most + 1):
+            for (s, t), value in table[head, order].items():
+                put(found, (s, t, order, 1), value)
+        return found
+
+    def of(table, name, body, path):
+        tag = body[0]
+        if tag == "none":
+            return unit
+        if tag == "read":
+            column = memory.letters.index(body[1])
+            return {(s, row[column][0], 0, 0): price[0] * row[column][1] + price[1] * row[column][2]
+                    for s, row in enumerate(memory.moves)}
+        if tag in ("call", "any"):
+            return named(table, (body[1],) if tag == "call" else (name, path))
+        found = {}
+        if tag == "times":
+            inner, layer = of(table, name, body[3], path + (0,)), unit
+            for number in range(body[2] + 1):
+                for place, value in layer.items() if number >= body[1] else ():
+                    put(found, place, value)
+                layer = behind_all(layer, inner)
+            return found
+        found = unit if tag == "then" else {}
+        for index, part in enumerate(body[1]):
+            inner = of(table, name, part, path + (index,))
+            if tag == "then":
+                found = behind_all(found, inner)
+            else:
+                found = dict(found)
+                for place, value in inner.items():
+                    put(found, place, value)
+        return found
+
+    table = {(head, order): {} for head in heads_of(program) for order in range(1, most + 1)}
+    rounds = 0
+    while True:
+        rounds += 1
+        now = {key: {} for key in table}
+        for head in heads_of(program):
+            if len(head) == 1:
+                can = of(table, head[0], program.procedures[head[0]], ())
+            else:
+                can = dict(unit)
+                once = of(table, head[0], loops[head], head[1] + (0,))
+                for place, value in behind_all(once, named(table, head)).items():
+                    put(can, place, value)
+            for (s, t, order, count), value in can.items():
+                own = 1 if order == 0 else order + (count > 1)
+                if own <= most:
+                    put(now[head, own], (s, t), value)
+        if now == table:
+            return table
+        if rounds > len(table) * many * many + 1:
+            for key in table:
+                for place, value in now[key].items():
+                    if table[key].get(place) != value:
+                        now[key][place] = INFINITE
+        table = now
+
+
+def is_short_paper(memory, program, price, thing):
+    try:
+        need(type(thing) is tuple and len(thing) == 2 and type(thing[1]) is dict)
+        for value in thing[1].values():
+            need(type(value) is tuple and len(value) == 2 and all(is_int(number) for number in value))
+    except Wrong:
+        return False
+    numbers = {triple: value[0] * SCALE - value[1] for triple, value in thing[1].items()}
+    return is_paper(memory, program, price, (thing[0], numbers), short_worth)
+
+
+def is_paper(memory, program, price, thing, step=step_worth):
     try:
         need(type(thing) is tuple and len(thing) == 2 and type(thing[0]) is tuple and type(thing[1]) is dict)
         for triple in list(thing[0]) + list(thing[1]):
@@ -284,7 +446,7 @@ def is_paper(memory, program, price, thing):
             for end in range(len(memory)):
                 if (head, state, end) not in thing[0]:
                     table[head][(state, end)] = thing[1].get((head, state, end), "open")
-    can = productions(memory, program, price, table)
+    can = productions(memory, program, price, table, step)
     for head, state, end in thing[0]:
         if (state, end) in can[head]:
             return False

@@ -26,8 +26,34 @@ INTERFACE = {
     "pumps": {"pump": CASE + " price", "is_pump": CASE + " price thing"},
     "wholes": {"whole": CASE, "cheapest": CASE, "critical": "front"},
     "showings": {"showing": CASE, "is_showing": CASE + " thing"},
+    "matrices": {"is_matrix": "thing", "unit_matrix": "many", "matrix_join": "one other", "matrix_product": "one other",
+                 "matrix_power": "matrix number", "matrix_star": "matrix", "transposed": "matrix"},
+    "equations": {"is_lettering": "thing", "lettering_of": "memory", "is_table": "lettering program thing",
+                  "unfolded": "lettering program table", "heights": "lettering program number"},
+    "orders": {"costs": "lettering program", "orders_told": "memory program tale", "by_order": "lettering program number",
+               "order_of": "lettering program", "whole_by_orders": CASE},
+    "together": {"replaced": "program letter other", "inlined": "program name path", "unrolled": "program name path"},
+    "lengths": {"free": "letters", "tallied": "memory", "longest": CASE, "least_length": CASE, "by_length": CASE + " most",
+                "within_length": CASE + " most", "dearest_word": CASE + " number price"},
+    "shortest": {"shortest": CASE + " price", "short_tale": CASE + " price", "first_word": CASE + " price most",
+                 "is_short_paper": "memory program price thing", "shown_short": CASE + " price paper",
+                 "short_paper": CASE + " price", "corner_lengths": CASE, "settles": CASE},
+    "prefixes": {"prefixes": "program", "suffixes": "program", "high_marks": "memory program start"},
+    "spots": {"spot": "memory program tale at", "stretch_told": "memory program tale low high", "peak_told": "memory program tale",
+              "first_above": "memory program tale price number"},
+    "gaps": {"put_in": "word breaks", "taken_out": "word pieces"},
+    "broken": {"broken": "program intruder count", "places": "program", "broken_at": "program intruder place"},
+    "swamped": {"swamped": "program intruder", "parted": "program intruder count word", "reduced": "program intruder word"},
+    "dearplaces": {"place_fronts": "memory program intruder start goals",
+                   "dearest_places": "memory program intruder start goals price"},
+    "sides": {"beside": "one other state against alone", "sides": "one other state against alone", "respelled": "program names"},
+    "losses": {"loss": "one other program state against", "loss_marked": "memory alone program state",
+               "loss_of_breaks": "memory program intruder count state", "loss_at": "memory program intruder place state",
+               "loss_swamped": "memory program intruder state"},
+    "alike": {"excess": "one other state against word", "likeness": "one other state against", "parting": "one other state against",
+              "least_memory": "memory state"},
 }
-METHODS = {("memories", "Memory"): ["__init__", "__len__", "__eq__"], ("programs", "Program"): ["__init__", "__eq__"]}
+METHODS = {("memories", "Memory"): ["__init__", "__len__", "__eq__"], ("programs", "Program"): ["__init__", "__eq__", "procedures"]}
 
 
 class Interface(unittest.TestCase):
