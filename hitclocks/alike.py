@@ -1,7 +1,7 @@
 """Two memories along all words: whether they pay the same, and which words part them."""
 
 from hitclocks.lines import crossing, worth_at
-from hitclocks.memories import Memory, check_memory, check_state, check_word, read
+from hitclocks.memories import Memory, check_memory, check_state, read
 from hitclocks.sides import check_two
 
 NO_PAIR = (0, 0)
@@ -10,12 +10,6 @@ NO_PAIR = (0, 0)
 def excess(one, other, state, against, word):
     """What a word costs more in one memory than in the other one."""
     check_two(one, other, state, against)
-    check_word(one, word)
-    return excess_along(one, other, state, against, word)
-
-
-def excess_along(one, other, state, against, word):
-    """As excess, without checks."""
     a, b = read(one, state, word)[1]
     c, d = read(other, against, word)[1]
     return (a - c, b - d)
@@ -62,7 +56,7 @@ def likeness(one, other, state, against):
     word = word_that_parts(one, other, state, against)
     if word is None:
         return ("all",)
-    price = crossing(excess_along(one, other, state, against, word), NO_PAIR)
+    price = crossing(excess(one, other, state, against, word), NO_PAIR)
     if price is None:
         return ("never", (word,))
     further = first_apart(one, other, state, against, lambda pair: worth_at(pair, price) != 0)

@@ -113,8 +113,10 @@ class Layers:
 
     def put_all(self, row, other):
         """Has a row tell what another one tells, too; whether it tells more then."""
-        more = [self.put(row, end, value) for end, value in list(other.items())]
-        return any(more)
+        grown = False
+        for end, value in list(other.items()):
+            grown = self.put(row, end, value) or grown
+        return grown
 
 
 def symbols_below(grammar, first):

@@ -75,14 +75,15 @@ def best_by_length(memory, program, start, goals, most, kind):
     layers = Layers(grammar, memory, first, kind)
     for _ in range(most):
         layers.grow()
-    told = []
-    for row in layers.rows[(first, start)]:
-        best = {}
-        for goal in goals:
-            if goal in row:
-                layers.put(best, start, row[goal])
-        told.append(best.get(start, None))
-    return told
+    return [best_of([row[goal] for goal in goals if goal in row], kind) for row in layers.rows[(first, start)]]
+
+
+def best_of(told, kind):
+    """The value of what is done as one of some; None if there are none."""
+    best = None
+    for value in told:
+        best = value if best is None else kind.better_of(best, value)
+    return best
 
 
 def within_length(memory, program, start, goals, most):

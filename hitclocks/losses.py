@@ -17,9 +17,7 @@ def loss(one, other, program, state, against):
     check_program_over(one, program)
     check_state(one, state)
     check_state(other, against)
-    memory = pairs_and_memory(one, other, state, against, {})[1]
-    check_products(head_count(program), memory)
-    return whole_to_all(memory, program)
+    return whole_to_all(pairs_and_memory(one, other, state, against, {})[1], program)
 
 
 def check_products(many, memory):
@@ -29,7 +27,7 @@ def check_products(many, memory):
 
 
 def whole_to_all(memory, program):
-    """The front of what a program costs from state 0 to all states."""
+    """The front of what a program costs from state 0 to all states; TooMany(2000)."""
     return whole(memory, program, 0, tuple(range(len(memory))))
 
 
@@ -43,9 +41,7 @@ def loss_marked(memory, alone, program, state):
         if letter not in known:
             raise NoLetter(letter)
     check_state(memory, state)
-    both = pairs_and_memory(memory, memory, state, state, alone)[1]
-    check_products(head_count(program), both)
-    return whole_to_all(both, program)
+    return whole_to_all(pairs_and_memory(memory, memory, state, state, alone)[1], program)
 
 
 def new_letters(memory, intruder):

@@ -41,7 +41,7 @@ class Unknowns:
         row = self.rows[number]
         star = star_of(row.pop(number, None))
         self.users[number].pop(number, None)
-        for other in row:
+        for other in list(row):
             row[other] = sum_of(star, row[other])
             del self.users[other][number]
         self.fronts[number] = sum_of(star, self.fronts[number])

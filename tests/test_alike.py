@@ -142,6 +142,12 @@ class Likeness(unittest.TestCase):
         self.assertEqual(parting(one, other, 0, 0), ("b", "a"))
         turned = relettered(one, {"a": "b", "b": "a"})
         self.assertEqual(parting(turned, other, 0, 0), ("a", "a"))
+        # Only a b b a a parts: other letters lead back to the beginning.
+        rows = []
+        for state, letter in enumerate("abbaa"):
+            rows.append(tuple((state + 1 if name == letter and state < 4 else 0, 0, int(name == letter and state == 4)) for name in "ab"))
+        self.assertEqual(parting(Memory(("a", "b"), tuple(rows)), other, 0, 0), ("a", "b", "b", "a", "a"))
+        self.assertEqual(parting(Memory(("a", "b"), tuple(rows)), other, 3, 0), ("a", "a"))
 
 
 def greatest_divisor(a, b):

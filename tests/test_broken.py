@@ -146,6 +146,9 @@ class Places(unittest.TestCase):
         self.assertEqual(places(Program({"f": A}, "f")), [(), ("f", ())])
         self.assertEqual(places(EMPTY), [()])
         self.assertEqual(places(SILENT), [])
+        for low, right in [(0, [(), ("f", (0, 0)), ("f", (1,))]), (1, [(), ("f", (1,))])]:
+            body = ("either", (("then", (A, ("times", low, 2, ("either", ())))), B))
+            self.assertEqual(places(Program({"f": body}, "f")), right)
         self.assertEqual(places(Program({"f": ("then", (("call", "f"), A)), "a": A}, "f")), [])
 
     def test_drawn_places(self):

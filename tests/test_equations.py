@@ -56,6 +56,9 @@ def drawn_equations(seed, many, rows=3):
         make = (drawn_matrix, finite_matrix)[drawing.below(2)]
         lettering = {letter: make(drawing, size) for letter in ("a", "b")}
         program = drawing.program(1 + drawing.below(2), 2, ("a", "b"))
+        if drawing.below(4) == 0:
+            inner = [("any", drawing.body(1, ("a", "b"), ("f",))) for _ in range(2)]
+            program = Program({"f": ("then", (("any", ("then", tuple(inner))), ("times", 0, 2, ("any", ("any", A)))))}, "f")
         if len(heads(program)) * size * size <= 60:
             yield drawing, lettering, program, size
 

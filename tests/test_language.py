@@ -23,6 +23,7 @@ BARRED_EVERYWHERE = set("register mro elements open input law version_info with_
 BARRED_WORDS = re.compile(
     r"\b(type|typing|typing_extensions|enum|Enum|IntEnum|StrEnum|Flag|IntFlag|Generic|Protocol|ABC|ABCMeta|namedtuple|"
     r"NamedTuple|TypedDict|TYPE_CHECKING|abstractmethod)\b|dataclass|overload|contextmanager|_wall\b|_WallAttr")
+CHANGING = set("append clear extend insert pop remove reverse setdefault update sort add discard".split())
 LIBRARY = {"math": {"gcd", "lcm", "isqrt", "comb", "perm", "factorial"},
            "heapq": {"heappush", "heappop", "heapify", "heapreplace", "heappushpop"}}
 ORDER = ("errors memories prices fronts unders asking caches programs heads tales dearest papers pumps wholes showings "
@@ -69,6 +70,35 @@ def imports_of(name):
         if isinstance(part, ast.ImportFrom) and part.module.startswith("hitclocks."):
             found.append(part.module[len("hitclocks."):])
     return found
+
+
+def gone_over_by(node):
+    """What a loop over this goes over, as far as it is a name, an attribute or an item."""
+    if isinstance(node, (ast.Name, ast.Attribute, ast.Subscript)):
+        return [node]
+    if isinstance(node, ast.Call) and isinstance(node.func, ast.Name) and node.func.id in ("enumerate", "zip", "reversed"):
+        return [thing for argument in node.args for thing in gone_over_by(argument)]
+    if isinstance(node, ast.Call) and isinstance(node.func, ast.Attribute) and node.func.attr in ("items", "keys", "values"):
+        return [node.func.value]
+    if isinstance(node, ast.BoolOp):
+        return [thing for value in node.values for thing in gone_over_by(value)]
+    if isinstance(node, ast.IfExp):
+        return gone_over_by(node.body) + gone_over_by(node.orelse)
+    return []
+
+
+def changed_by(node):
+    """What a statement or a call changes, as it would be read."""
+    found = []
+    if isinstance(node, (ast.Assign, ast.Delete)):
+        found = [target.value for target in node.targets if isinstance(target, ast.Subscript)]
+    if isinstance(node, ast.AugAssign):
+        found = [node.target.value if isinstance(node.target, ast.Subscript) else node.target]
+    if isinstance(node, ast.Call) and isinstance(node.func, ast.Attribute) and node.func.attr in CHANGING:
+        found = [node.func.value]
+    if isinstance(node, ast.Call) and isinstance(node.func, ast.Name) and node.func.id.startswith("heap"):
+        found = node.args[:1]
+    return [ast.parse(ast.unparse(thing), mode="eval").body for thing in found]
 
 
 class Files(unittest.TestCase):
@@ -267,6 +297,33 @@ class Code(unittest.TestCase):
             for function in functions(tree(name)):
                 if not function.name.startswith("__"):
                     self.assertTrue(ast.get_docstring(function), (name, function.name))
+
+    def test_what_a_loop_goes_over_is_not_changed(self):
+        for name in files():
+            for part in ast.walk(tree(name)):
+                if isinstance(part, ast.For):
+                    gone_over = {ast.dump(thing) for thing in gone_over_by(part.iter)}
+                    for inner in [inner for row in part.body for inner in ast.walk(row)]:
+                        for changed in changed_by(inner):
+                            self.assertNotIn(ast.dump(changed), gone_over, (name, inner.lineno))
+
+    def test_lambdas_stand_on_lines_of_their_own(self):
+        for name in files():
+            lines = [part.lineno for part in ast.walk(tree(name)) if isinstance(part, ast.Lambda)]
+            self.assertEqual(len(lines), len(set(lines)), name)
+
+    def test_methods_are_called_where_they_stand(self):
+        methods = set()
+        for name in files():
+            for part in ast.walk(tree(name)):
+                if isinstance(part, ast.ClassDef):
+                    methods |= {item.name for item in part.body if isinstance(item, ast.FunctionDef) and not item.decorator_list}
+        for name in files():
+            whole = tree(name)
+            called = {id(part.func) for part in ast.walk(whole) if isinstance(part, ast.Call)}
+            for part in ast.walk(whole):
+                if isinstance(part, ast.Attribute) and part.attr in methods:
+                    self.assertIn(id(part), called, (name, part.lineno))
 
     def test_kept_ranges_and_views(self):
         for name in files():

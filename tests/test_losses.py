@@ -329,6 +329,27 @@ class Breaks(unittest.TestCase):
         caught(self, TooMany, {"most": 2000}, loss_swamped, free_of_b, program, Program({"g": ("any", B)}, "g"), 0)
         self.assertEqual(loss_swamped(free_of_b, program, other, 0), ("at", (1, 0), 0))
 
+    def test_heads_that_no_word_needs_are_counted(self):
+        """(count + 2) * h + i + 1, 3 * h + i + 1 and h + i + 3 times states times states, up to 2000 and more."""
+        still = {states: Memory(("a", "b"), tuple((((state + 1) % states, 1, 0), (state, 0, 1)) for state in range(states)))
+                 for states in (10, 11)}
+        unused = {"p" + str(number): ("none",) for number in range(20)}
+        for function, more, h, i, right in [
+                (loss_of_breaks, (0,), 7, 5, True), (loss_of_breaks, (0,), 7, 6, False), (loss_of_breaks, (0,), 8, 4, False),
+                (loss_of_breaks, (1,), 5, 4, True), (loss_of_breaks, (1,), 5, 5, False), (loss_of_breaks, (1,), 6, 2, False),
+                (loss_of_breaks, (2,), 4, 3, True), (loss_of_breaks, (2,), 4, 4, False), (loss_of_breaks, (3,), 3, 4, True),
+                (loss_of_breaks, (3,), 3, 5, False), (loss_at, ((),), 6, 1, True), (loss_at, ((),), 5, 4, True), (loss_at, ((),), 5, 5, False),
+                (loss_swamped, (), 10, 7, True), (loss_swamped, (), 10, 8, False), (loss_swamped, (), 7, 10, True),
+                (loss_swamped, (), 8, 10, False)]:
+            program = Program({"f": A, **{"p" + str(number): unused["p" + str(number)] for number in range(h - 1)}}, "f")
+            intruder = Program({"g": B, **{"p" + str(number): unused["p" + str(number)] for number in range(i - 1)}}, "g")
+            case = (still[10], program, intruder, *more, 0)
+            if right:
+                self.assertIsNotNone(function(*case))
+            else:
+                caught(self, TooMany, {"most": 2000}, function, *case)
+            caught(self, TooMany, {"most": 2000}, function, still[11], *case[1:])
+
     def test_wrong_values(self):
         wrong = {**wrong_values(("memory", "memory"), ("program", "letters"), ("intruder", "letters"), ("state", "state")),
                  "count": numbers_beyond(0, 3), "place": [(thing, BadPlace, {}) for thing in [

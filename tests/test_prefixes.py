@@ -4,7 +4,7 @@ import unittest
 
 from drawing import Drawing, both_ways, caught, refuses, simple_memory, simple_program, wrong_values
 from hitclocks.dearest import dearest, most_at
-from hitclocks.errors import BadProgram, TooMany
+from hitclocks.errors import BadProgram, BadState, NoLetter, TooMany
 from hitclocks.fronts import front_of, is_below
 from hitclocks.heads import heads
 from hitclocks.memories import Memory
@@ -87,6 +87,8 @@ class ByTheWords(unittest.TestCase):
             caught(self, TooMany, {"most": 64}, function, Program({**procedures, "q": B}, "p0"))
         self.assertEqual(high_marks(memory_of(1), Program(procedures, "p0"), 0), front_of([(0, 0), (1, -1)]))
         caught(self, TooMany, {"most": 64}, high_marks, memory_of(1, "ab"), Program({**procedures, "q": B}, "p0"), 0)
+        caught(self, BadState, {}, high_marks, memory_of(1, "ab"), Program({**procedures, "q": B}, "p0"), 1)
+        caught(self, NoLetter, {"letter": "b"}, high_marks, memory_of(1), Program({**procedures, "q": B}, "p0"), 1)
         # More than 2000 triples of the program itself, and too many procedures: the latter is told first.
         caught(self, TooMany, {"most": 64}, high_marks, memory_of(8, "ab"), Program({**procedures, "q": B}, "p0"), 0)
 

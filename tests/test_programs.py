@@ -5,7 +5,7 @@ import unittest
 from drawing import ROUND_PROGRAM, Drawing, any_values, both_ways, caught, simple_program
 from hitclocks.errors import BadNumber, BadProgram, TooMany
 from hitclocks.heads import heads
-from hitclocks.programs import (Program, in_rings, is_word_of, letters_of, never, turned_about, words_of)
+from hitclocks.programs import Program, in_rings, is_word_of, letters_of, made_program, never, turned_about, words_of
 from reference import heads_of, words_up_to
 
 NONE = ("none",)
@@ -77,9 +77,29 @@ class Making(unittest.TestCase):
         for one in different:
             for other in different:
                 self.assertIs(Program({"f": one, "g": A}, "f") == Program({"f": other, "g": A}, "f"), one is other)
+        for other in [{"f": A}, {"f": A, "g": B, "h": A}, {"f": A, "h": B}, {"e": A, "f": A, "g": B}]:
+            self.assertFalse(Program({"f": A, "g": B}, "f") == Program(other, "f"))
+            self.assertFalse(Program(other, "f") == Program({"f": A, "g": B}, "f"))
         for thing in any_values():
             if not isinstance(thing, Program):
                 self.assertFalse(simple_program() == thing)
+
+    def test_bodies_of_very_many_levels(self):
+        """As functions of the package may make them; those that callers write are not so deep."""
+        for above in (lambda body: ("then", (body,)), lambda body: ("either", (body,)), lambda body: ("times", 1, 1, body),
+                      lambda body: ("any", body)):
+            bodies = [A, A, B]
+            for _ in range(1500):
+                bodies = [above(body) for body in bodies]
+            one, other, third = [made_program({"f": body}, "f") for body in bodies]
+            self.assertTrue(one == other)
+            self.assertFalse(one == third)
+            self.assertTrue(turned_about(one) == one)
+            self.assertEqual(letters_of(third), ("b",))
+            self.assertEqual((never(one), in_rings(one)), ((), ()))
+            self.assertIs(is_word_of(one, ("a",)), True)
+            self.assertEqual(words_of(one, 1)[-1], ("a",))
+            self.assertEqual(len(heads(one)), 1501 if bodies[0][0] == "any" else 1)
 
     def test_no_such_dict(self):
         wrong_dicts = [None, [], (), [("f", A)], {}, {"F": A}, {"": A}, {"1": A}, {".a": A}, {"f" * 13: A}, {"a_": A}, {0: A},
