@@ -37,9 +37,9 @@ def first_apart(one, other, state, against, is_apart):
 
 
 def word_of_ways(ways, number):
-    """The word that leads to a place, each of which is come to from an earlier one by a letter."""
+    """The word that leads to a place; ways has for each one an earlier one and a letter, () where words begin."""
     letters = []
-    while number > 0:
+    while ways[number]:
         number, letter = ways[number]
         letters.append(letter)
     return tuple(letters[::-1])

@@ -13,13 +13,13 @@ MOST_STATES = 40
 def cache(rule, ways, lines, back):
     """The memory of a cache that is empty at first."""
     check_cache(rule, ways, lines, back)
-    return rows_and_moves(rule, ways, lines, back)[1]
+    return rows_and_moves(rule, ways, lines, back, ())[1]
 
 
 def held(rule, ways, lines, back, state):
     """What the cache holds in a state: pairs of a line and whether it is dirty, the front first."""
     check_cache(rule, ways, lines, back)
-    rows, _ = rows_and_moves(rule, ways, lines, back)
+    rows, _ = rows_and_moves(rule, ways, lines, back, ())
     if not is_number_from(state, 0, len(rows) - 1):
         raise BadState("not a state of the cache")
     return rows[state]
@@ -37,9 +37,14 @@ def check_cache(rule, ways, lines, back):
         raise BadBack("neither late nor once")
 
 
-def rows_and_moves(rule, ways, lines, back):
-    """The rows that stand for the states, and the memory over them."""
-    letters = tuple(WRITTEN[:lines] + LINES[:lines])
+def letters_of_lines(lines):
+    """The tuple of the letters of so many lines, ascending."""
+    return tuple(WRITTEN[:lines] + LINES[:lines])
+
+
+def rows_and_moves(rule, ways, lines, back, lot):
+    """The rows that stand for the states, and the memory over them; the lines of a lot are held beside the rows."""
+    letters = letters_of_lines(lines)
     rows = [()]
     numbers = {(): 0}
     moves = []
@@ -47,7 +52,10 @@ def rows_and_moves(rule, ways, lines, back):
         row = rows[len(moves)]
         answers = []
         for letter in letters:
-            after, a, b = answered(rule, ways, back, row, letter)
+            if letter.lower() in lot:
+                after, a, b = row, 0, 1 if is_written_back(letter, back) else 0
+            else:
+                after, a, b = answered(rule, ways - len(lot), back, row, letter)
             if after not in numbers:
                 numbers[after] = len(rows)
                 rows.append(after)
@@ -61,13 +69,17 @@ def rows_and_moves(rule, ways, lines, back):
 def answered(rule, ways, back, row, letter):
     """The row behind a letter, and both numbers that it costs."""
     line = letter.lower()
-    written = letter != line
     after, a, b = brought(rule, ways, row, line)
-    if written and back == "once":
+    if is_written_back(letter, back):
         return (after, a, b + 1)
-    if written:
+    if letter != line:
         after = tuple([(name, dirty or name == line) for name, dirty in after])
     return (after, a, b)
+
+
+def is_written_back(letter, back):
+    """Whether a letter writes its line back at once."""
+    return letter in WRITTEN and back == "once"
 
 
 def brought(rule, ways, row, line):

@@ -3,6 +3,7 @@
 from hitclocks.cases import check_case, check_triples
 from hitclocks.findings import Finding
 from hitclocks.prices import check_price
+from hitclocks.searches import steps_at
 
 
 def found(memory, program, start, goals, price):
@@ -10,7 +11,7 @@ def found(memory, program, start, goals, price):
     check_case(memory, program, start, goals)
     check_price(price)
     check_triples(memory, program)
-    return Finding(memory, program, start, goals, price)
+    return Finding(program, steps_at(memory, price), start, goals)
 
 
 def most_at(memory, program, start, goals, price):

@@ -1,13 +1,13 @@
 """Letterings and tables of matrices, and what the bodies of a program cost by them."""
 
 from hitclocks.bodies import bodies_of_heads, is_head_in, placed_parts
-from hitclocks.errors import BadLettering, BadNumber, BadTable, NoLetter, TooMany
+from hitclocks.errors import BadLettering, BadNumber, BadTable, TooMany
 from hitclocks.folds import folded
 from hitclocks.fronts import front_of
 from hitclocks.kinds import is_letter, is_number_from
 from hitclocks.matrices import is_matrix, join_of_matrices, nothing_of, product_of, unit_of
 from hitclocks.memories import MOST_LETTERS, check_memory
-from hitclocks.programs import check_program, letters_of
+from hitclocks.programs import check_letters_among, check_program
 
 MOST_UNKNOWNS = 150
 MOST_HEIGHT = 60
@@ -30,9 +30,7 @@ def check_lettered(lettering, program):
     if not is_lettering(lettering):
         raise BadLettering("not a dict of letters to matrices")
     check_program(program)
-    for letter in letters_of(program):
-        if letter not in lettering:
-            raise NoLetter(letter)
+    check_letters_among(lettering, program)
 
 
 def rows_of(lettering):

@@ -1,17 +1,20 @@
-"""What a search at one price finds of the runs of a program from a start to its goals."""
+"""What a search finds of the runs of a program from a start to its goals."""
 
 from hitclocks.grammars import Grammar
 from hitclocks.records import NO_RECORD, tale_from
-from hitclocks.searches import Search, steps_at
+from hitclocks.searches import Search
 
 
 class Finding:
-    """The runs of the first procedure from a start, searched at one price; early if one is endless."""
+    """The runs of the first procedure from a start, searched by what letters pay; early if one is endless.
 
-    def __init__(self, memory, program, start, goals, price):
+    steps has for each state a dict from letters to the next state and a number that is paid.
+    """
+
+    def __init__(self, program, steps, start, goals):
         grammar = Grammar(program.procedures)
         self.goals = goals
-        self.search = Search(grammar, steps_at(memory, price))
+        self.search = Search(grammar, steps)
         self.row = self.search.row_at(grammar.numbers[(program.first,)], start)
         self.search.grow([self.row.base + goal for goal in goals])
 

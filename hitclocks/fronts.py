@@ -189,26 +189,25 @@ def star_of(front):
         return ZERO
     if front == ENDLESS:
         return ENDLESS
-    low, high = stretch_of(front)
     if front[0] == "at":
-        return zero_between(low, high) if front[2] <= 0 else ENDLESS
-    for a, b in front[3]:
+        return ("at", front[1], 0) if front[2] <= 0 else ENDLESS
+    stretch = stretch_without_gain(front[3], front[1], front[2])
+    if stretch is None:
+        return ENDLESS
+    low, high = stretch
+    return ("at", low, 0) if low == high else ("over", low, high, ((0, 0),))
+
+
+def stretch_without_gain(pairs, low, high):
+    """The first and the last price, of those from low to high, at which no pair is worth more than 0; None if none."""
+    for a, b in pairs:
         if a > 0 and b > 0:
-            return ENDLESS
+            return None
         if a > 0 and goes_ahead(low, reduced(-b, a)):
             low = reduced(-b, a)
         if b > 0 and goes_ahead(reduced(b, -a), high):
             high = reduced(b, -a)
-    return zero_between(low, high)
-
-
-def zero_between(low, high):
-    """The front that is 0 from low to high, endless elsewhere."""
-    if low == high:
-        return ("at", low, 0)
-    if goes_ahead(low, high):
-        return ("over", low, high, ((0, 0),))
-    return ENDLESS
+    return None if goes_ahead(high, low) else (low, high)
 
 
 def is_below(one, other):

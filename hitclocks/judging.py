@@ -3,20 +3,19 @@
 from hitclocks.bodies import bodies_of_heads, is_head_in
 from hitclocks.grammars import Grammar
 from hitclocks.kinds import is_ascending, is_tuple_of
-from hitclocks.lines import worth_at
 from hitclocks.memories import is_state
 from hitclocks.sums import Sums
 
 
-def ranked_steps(memory, price, rank):
-    """For each state the dict from the letters to the next state and the pair of what is paid and this rank."""
-    steps = []
-    for row in memory.moves:
+def with_rank(steps, rank):
+    """The steps that pay pairs of what these ones pay and a rank."""
+    ranked = []
+    for row in steps:
         answers = {}
-        for letter, (place, a, b) in zip(memory.letters, row):
-            answers[letter] = (place, (worth_at((a, b), price), rank))
-        steps.append(answers)
-    return steps
+        for letter, (place, paid) in row.items():
+            answers[letter] = (place, (paid, rank))
+        ranked.append(answers)
+    return ranked
 
 
 def is_paper_by_form(memory, program, thing, is_value):

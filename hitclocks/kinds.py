@@ -82,3 +82,18 @@ def has_just_keys(table, names):
         if name not in table:
             return False
     return True
+
+
+def is_among(thing, letters):
+    """Whether any value is one of these letters."""
+    return isinstance(thing, str) and thing in letters
+
+
+def is_tuple_among(thing, letters):
+    """Whether any value is a tuple of some of these letters, in any order."""
+    if not isinstance(thing, tuple):
+        return False
+    for letter in thing:
+        if not is_among(letter, letters):
+            return False
+    return True

@@ -11,6 +11,7 @@ from hitclocks.lines import AHEAD_OF_ALL, BEHIND_ALL
 from hitclocks.memories import Memory, check_memory, negated
 from hitclocks.prices import check_price
 from hitclocks.programs import Program
+from hitclocks.searches import steps_at
 
 MOST_FREE = 64
 READS_BESIDE = 8
@@ -40,14 +41,14 @@ def longest(memory, program, start, goals):
     """The greatest length of a run: None without runs, "endless" without a bound."""
     check_case(memory, program, start, goals)
     check_triples(memory, program)
-    return Finding(tallied(memory), program, start, goals, AHEAD_OF_ALL).greatest()
+    return Finding(program, steps_at(tallied(memory), AHEAD_OF_ALL), start, goals).greatest()
 
 
 def least_length(memory, program, start, goals):
     """The least length of a run; None without runs."""
     check_case(memory, program, start, goals)
     check_triples(memory, program)
-    most = Finding(negated(tallied(memory)), program, start, goals, AHEAD_OF_ALL).greatest()
+    most = Finding(program, steps_at(negated(tallied(memory)), AHEAD_OF_ALL), start, goals).greatest()
     return None if most is None else -most
 
 

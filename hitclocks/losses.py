@@ -3,9 +3,9 @@
 from hitclocks.broken import broken_at_place, broken_so_often, check_broken, check_broken_at, check_count, check_place
 from hitclocks.broken import head_count
 from hitclocks.cases import MOST_TRIPLES
-from hitclocks.errors import NoLetter, TooMany
-from hitclocks.memories import check_memory, check_state
-from hitclocks.programs import check_program, check_program_over, first_free, letters_of
+from hitclocks.errors import TooMany
+from hitclocks.memories import all_states, check_memory, check_state
+from hitclocks.programs import check_letters_among, check_program, check_program_over, first_free, letters_of
 from hitclocks.sides import check_alone, check_memories, pairs_and_memory, respelled_so
 from hitclocks.swamped import check_swamped, swamped_so
 from hitclocks.wholes import whole
@@ -28,7 +28,7 @@ def check_products(many, memory):
 
 def whole_to_all(memory, program):
     """The front of what a program costs from state 0 to all states; TooMany(2000)."""
-    return whole(memory, program, 0, tuple(range(len(memory))))
+    return whole(memory, program, 0, all_states(memory))
 
 
 def loss_marked(memory, alone, program, state):
@@ -36,10 +36,7 @@ def loss_marked(memory, alone, program, state):
     check_memory(memory)
     check_alone(memory, alone)
     check_program(program)
-    known = list(memory.letters) + list(alone.values())
-    for letter in letters_of(program):
-        if letter not in known:
-            raise NoLetter(letter)
+    check_letters_among(list(memory.letters) + list(alone.values()), program)
     check_state(memory, state)
     return whole_to_all(pairs_and_memory(memory, memory, state, state, alone)[1], program)
 

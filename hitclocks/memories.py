@@ -1,8 +1,8 @@
 """Memories: what each letter costs in each state, and where it leads."""
 
 from hitclocks.errors import BadGoals, BadLetter, BadMemory, BadNames, BadState, BadWord
-from hitclocks.kinds import has_just_keys, is_ascending, is_letter, is_number_from
-from hitclocks.kinds import is_row_of_letters, is_tuple_of
+from hitclocks.kinds import has_just_keys, is_among, is_ascending, is_letter, is_number_from
+from hitclocks.kinds import is_row_of_letters, is_tuple_among, is_tuple_of
 
 MOST_LETTERS = 72
 MOST_STATES = 120
@@ -64,6 +64,11 @@ def check_state(memory, state):
         raise BadState("not a state of the memory")
 
 
+def all_states(memory):
+    """The ascending tuple of all states of the memory."""
+    return tuple(range(len(memory)))
+
+
 def check_goals(memory, goals):
     """BadGoals unless it is an ascending tuple of one or more different states."""
     if not isinstance(goals, tuple) or len(goals) == 0:
@@ -77,19 +82,26 @@ def check_goals(memory, goals):
 
 def check_word(memory, word):
     """BadWord unless it is a tuple of letters of the memory."""
-    if not isinstance(word, tuple):
-        raise BadWord("not a tuple of letters")
-    for letter in word:
-        if not isinstance(letter, str) or letter not in memory.letters:
-            raise BadWord("not a letter of the memory")
+    if not is_tuple_among(word, memory.letters):
+        raise BadWord("not a tuple of letters of the memory")
+
+
+def check_letter(memory, letter):
+    """BadLetter unless it is a letter of the memory."""
+    if not is_among(letter, memory.letters):
+        raise BadLetter("not a letter of the memory")
 
 
 def stepped(memory, state, letter):
     """The next state, and the pair that is paid."""
     check_memory(memory)
     check_state(memory, state)
-    if not isinstance(letter, str) or letter not in memory.letters:
-        raise BadLetter("not a letter of the memory")
+    check_letter(memory, letter)
+    return step_of(memory, state, letter)
+
+
+def step_of(memory, state, letter):
+    """As stepped, without checks."""
     place, a, b = memory.moves[state][memory.letters.index(letter)]
     return (place, (a, b))
 
@@ -99,6 +111,11 @@ def read(memory, state, word):
     check_memory(memory)
     check_state(memory, state)
     check_word(memory, word)
+    return read_along(memory, state, word)
+
+
+def read_along(memory, state, word):
+    """As read, without checks."""
     columns = columns_of(memory)
     place, first, second = state, 0, 0
     for letter in word:
@@ -106,6 +123,17 @@ def read(memory, state, word):
         first += a
         second += b
     return (place, (first, second))
+
+
+def steps_by(memory, tell):
+    """For each state the dict from the letters to the next state and what is told of the pair that is paid."""
+    steps = []
+    for row in memory.moves:
+        answers = {}
+        for letter, (place, a, b) in zip(memory.letters, row):
+            answers[letter] = (place, tell((a, b)))
+        steps.append(answers)
+    return steps
 
 
 def columns_of(memory):

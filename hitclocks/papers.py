@@ -3,11 +3,12 @@
 from hitclocks.cases import check_case, check_triples
 from hitclocks.dearest import found
 from hitclocks.errors import BadPaper
-from hitclocks.judging import are_kept, is_paper_by_form, ranked_steps
+from hitclocks.judging import are_kept, is_paper_by_form, with_rank
 from hitclocks.kinds import is_number
 from hitclocks.memories import check_memory
 from hitclocks.prices import check_price
 from hitclocks.programs import check_program_over, in_key_order
+from hitclocks.searches import steps_at
 
 
 def is_paper(memory, program, price, thing):
@@ -21,12 +22,17 @@ def is_paper(memory, program, price, thing):
 
 def holds(memory, program, price, thing):
     """As is_paper, without checks of what it is for."""
+    return holds_paying(memory, program, steps_at(memory, price), thing)
+
+
+def holds_paying(memory, program, steps, thing):
+    """Whether any value is a paper that holds by what letters pay, by their steps."""
     if not is_paper_by_form(memory, program, thing, is_number):
         return False
     values = {}
     for triple, number in thing[1].items():
         values[triple] = (number, 0)
-    return are_kept(program, ranked_steps(memory, price, 0), thing[0], values)
+    return are_kept(program, with_rank(steps, 0), thing[0], values)
 
 
 def shown_most(memory, program, start, goals, price, paper):

@@ -3,7 +3,7 @@
 from hitclocks.bodies import NO_WORD, parts_of
 from hitclocks.errors import TooMany
 from hitclocks.folds import folded
-from hitclocks.memories import check_memory, check_state
+from hitclocks.memories import all_states, check_memory, check_state
 from hitclocks.programs import MOST_PROCEDURES, check_program, check_program_over, first_free, made_program, never
 from hitclocks.wholes import whole
 
@@ -93,4 +93,4 @@ def high_marks(memory, program, start):
     check_program_over(memory, program)
     check_state(memory, start)
     begun = prefixes(program)
-    return whole(memory, begun, start, tuple(range(len(memory))))
+    return whole(memory, begun, start, all_states(memory))

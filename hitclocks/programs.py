@@ -87,8 +87,13 @@ def check_program(program):
 def check_program_over(memory, program):
     """BadProgram(None), NoLetter with the least letter that the memory does not have."""
     check_program(program)
+    check_letters_among(memory.letters, program)
+
+
+def check_letters_among(letters, program):
+    """NoLetter with the least letter of the program that is none of these."""
     for letter in letters_of(program):
-        if letter not in memory.letters:
+        if letter not in letters:
             raise NoLetter(letter)
 
 

@@ -27,6 +27,12 @@ def is_pump(memory, program, start, goals, price, thing):
 
 def gain_of(memory, program, start, goals, thing):
     """The pair of the round if any value is a pump but for what its round is worth; otherwise None."""
+    gained = round_of(memory, program, start, goals, thing)
+    return None if gained is None else (gained.first, gained.second)
+
+
+def round_of(memory, program, start, goals, thing):
+    """What the round tells if any value is a pump but for what its round is worth; otherwise None."""
     if not is_tuple_of(thing, 3):
         return None
     way, lap, rest = thing
@@ -41,7 +47,7 @@ def gain_of(memory, program, start, goals, thing):
         return None
     if ahead.head != (program.first,) or ahead.start != start or ahead.end not in goals:
         return None
-    return (gained.first, gained.second)
+    return gained
 
 
 def place_of(run):

@@ -1,6 +1,7 @@
 """The search for the dearest runs at one price: all runs that a start needs, by their greatest worths."""
 
 from hitclocks.lines import worth_at
+from hitclocks.memories import steps_by
 from hitclocks.records import NO_RECORD, Records
 from hitclocks.rounds import find_rounds
 
@@ -94,7 +95,7 @@ class Search:
         if grammar.empties[row.symbol]:
             self.take(row, row.origin, 0, NO_RECORD, NO_RECORD)
         letter = grammar.letters[row.symbol]
-        if letter is not None:
+        if letter in self.steps[row.origin]:
             place, paid = self.steps[row.origin][letter]
             self.take(row, place, paid, NO_RECORD, NO_RECORD)
         for symbol in grammar.units[row.symbol]:
@@ -193,10 +194,4 @@ class Search:
 
 def steps_at(memory, price):
     """For each state the dict from the letters to the next state and the worth of what is paid."""
-    steps = []
-    for row in memory.moves:
-        answers = {}
-        for letter, (place, a, b) in zip(memory.letters, row):
-            answers[letter] = (place, worth_at((a, b), price))
-        steps.append(answers)
-    return steps
+    return steps_by(memory, lambda pair: worth_at(pair, price))

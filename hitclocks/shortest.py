@@ -5,12 +5,13 @@ from hitclocks.dearest import found
 from hitclocks.errors import BadNumber, BadPaper, TooMany
 from hitclocks.findings import Finding
 from hitclocks.fronts import ENDLESS
-from hitclocks.judging import are_kept, is_paper_by_form, ranked_steps
+from hitclocks.judging import are_kept, is_paper_by_form, with_rank
 from hitclocks.kinds import is_number_from, is_pair
 from hitclocks.memories import check_memory
 from hitclocks.prices import amid, check_price
 from hitclocks.programs import check_program_over, in_key_order
 from hitclocks.records import NO_RECORD, tale_from
+from hitclocks.searches import steps_at
 from hitclocks.shorts import Shorts
 from hitclocks.unders import bends
 from hitclocks.wholes import whole
@@ -59,7 +60,11 @@ def first_word(memory, program, start, goals, price, most):
     if not is_number_from(most, 0, MOST_WORD):
         raise BadNumber("not a number from 0 to 2000")
     check_triples(memory, program)
-    finding = Finding(memory, program, start, goals, price)
+    return first_word_of(Finding(program, steps_at(memory, price), start, goals), most)
+
+
+def first_word_of(finding, most):
+    """As first_word, of what was found."""
     if is_endless_or_none(finding):
         return None
     shorts = Shorts(finding.search, False, None)
@@ -86,7 +91,7 @@ def holds_short(memory, program, price, thing):
     values = {}
     for triple, (paid, length) in thing[1].items():
         values[triple] = (paid, -length)
-    return are_kept(program, ranked_steps(memory, price, -1), thing[0], values)
+    return are_kept(program, with_rank(steps_at(memory, price), -1), thing[0], values)
 
 
 def shown_short(memory, program, start, goals, price, paper):
@@ -131,7 +136,7 @@ def corner_lengths(memory, program, start, goals):
         return []
     lengths = []
     for price in prices_amid(front):
-        lengths.append(shortest_of(Finding(memory, program, start, goals, price))[1])
+        lengths.append(shortest_of(Finding(program, steps_at(memory, price), start, goals))[1])
     return lengths
 
 

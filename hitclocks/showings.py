@@ -1,16 +1,16 @@
 """Showings: runs, papers and pumps that show a front for all prices."""
 
-from hitclocks.asking import by_asking
 from hitclocks.cases import check_case, check_triples
 from hitclocks.findings import Finding
-from hitclocks.fronts import ENDLESS, is_front, is_over, told_at
+from hitclocks.fronts import ENDLESS, is_front, is_over, stretch_of, told_at
 from hitclocks.kinds import has_just_keys, is_list, is_tuple_of
 from hitclocks.lines import AHEAD_OF_ALL, BEHIND_ALL, crossing, worth_at
 from hitclocks.papers import holds, paper_of, shown_by
 from hitclocks.prices import is_price
 from hitclocks.pumps import gain_of
+from hitclocks.searches import steps_at
 from hitclocks.telling import last_run
-from hitclocks.wholes import Asker, critical_prices
+from hitclocks.wholes import asker_of, critical_prices
 
 KEYS = ("front", "papers", "pumps", "runs")
 
@@ -19,50 +19,50 @@ def showing(memory, program, start, goals):
     """The front of the most, with runs, papers and pumps that show it."""
     check_case(memory, program, start, goals)
     check_triples(memory, program)
-    asker = Asker(memory, program, start, goals)
-    front = by_asking(lambda price: asker.answer(price))
+    asker = asker_of(memory, program, start, goals)
+    front = asker.front()
     papers = []
     for price in critical_prices(front):
-        papers.append((price, paper_of(Finding(memory, program, start, goals, price))))
-    return {"front": front, "papers": papers, "pumps": pumps_for(front, asker), "runs": runs_for(front, asker)}
+        papers.append((price, paper_of(Finding(program, steps_at(memory, price), start, goals))))
+    return {
+        "front": front,
+        "papers": papers,
+        "pumps": showing_gains(front, asker.pumps),
+        "runs": showing_corners(front, asker.tales),
+    }
 
 
-def runs_for(front, asker):
-    """The tales, among those by which was answered, that show the corners."""
+def showing_corners(front, told):
+    """What shows the corners, of what was told for pairs."""
     if front is None or front == ENDLESS:
         return []
     if is_over(front):
-        return [asker.tales[corner] for corner in front[3]]
-    return [asker.tales[pair] for pair in asker.tales if worth_at(pair, front[1]) == front[2]][:1]
+        return [told[corner] for corner in front[3]]
+    return [told[pair] for pair in told if worth_at(pair, front[1]) == front[2]][:1]
 
 
-def pumps_for(front, asker):
-    """The pumps, among those by which was answered, that show what is endless."""
+def showing_gains(front, told):
+    """What shows what is endless, of what was told for gains, in the order in which by_asking was told them."""
     if front is None:
         return []
     if front == ENDLESS:
-        return endless_pumps(asker)
-    low, high = ends_of_stretch(front)
-    pumps = []
+        return showing_endless(told)
+    low, high = stretch_of(front)
+    shown = []
     if low != AHEAD_OF_ALL:
-        pumps.append(asker.pumps[[pair for pair in asker.pumps if ends_at_low(pair, low)][0]])
+        shown.append(told[[pair for pair in told if ends_at_low(pair, low)][0]])
     if high != BEHIND_ALL:
-        pumps.append(asker.pumps[[pair for pair in asker.pumps if begins_at_high(pair, high)][0]])
-    return pumps
+        shown.append(told[[pair for pair in told if begins_at_high(pair, high)][0]])
+    return shown
 
 
-def endless_pumps(asker):
-    """One or two pumps of which at each price one gains."""
-    gains = list(asker.pumps)
+def showing_endless(told):
+    """One or two of what was told for gains, of which at each price one gains."""
+    gains = list(told)
     # Each round but the last one gains ahead of a price at which the next one gains; the last one from there on.
     if gain_everywhere(gains[-1:]):
-        return [asker.pumps[gains[-1]]]
-    return [asker.pumps[pair] for pair in gains[-2:]]
-
-
-def ends_of_stretch(front):
-    """The first and the last price at which a front tells a number."""
-    return (front[1], front[2]) if is_over(front) else (front[1], front[1])
+        return [told[gains[-1]]]
+    return [told[pair] for pair in gains[-2:]]
 
 
 def ends_at_low(pair, low):
@@ -96,9 +96,10 @@ def is_showing(memory, program, start, goals, thing):
     if not is_list(thing["runs"]) or not is_list(thing["papers"]) or not is_list(thing["pumps"]):
         return False
     front = thing["front"]
-    if not are_pumps(front, [gain_of(memory, program, start, goals, item) for item in thing["pumps"]]):
+    gains = [gain_of(memory, program, start, goals, item) for item in thing["pumps"]]
+    if not show_gains(front, gains) or front == ENDLESS and not gain_somewhere(gains):
         return False
-    if not are_runs(front, [pair_of_run(memory, program, start, goals, item) for item in thing["runs"]]):
+    if not show_corners(front, [pair_of_run(memory, program, start, goals, item) for item in thing["runs"]]):
         return False
     prices = critical_prices(front)
     if len(thing["papers"]) != len(prices):
@@ -117,8 +118,8 @@ def pair_of_run(memory, program, start, goals, thing):
     return (run.first, run.second)
 
 
-def are_runs(front, pairs):
-    """Whether these pairs of runs, None for what is no run, are those of the corners."""
+def show_corners(front, pairs):
+    """Whether these pairs, None for what has none, are those of the corners."""
     if front is None or front == ENDLESS:
         return len(pairs) == 0
     if is_over(front):
@@ -126,15 +127,15 @@ def are_runs(front, pairs):
     return len(pairs) == 1 and pairs[0] is not None and worth_at(pairs[0], front[1]) == front[2]
 
 
-def are_pumps(front, gains):
-    """Whether these gains of pumps, None for what is no pump, show what is endless."""
+def show_gains(front, gains):
+    """Whether these gains, None for what has none, show what is endless."""
     if None in gains:
         return False
     if front is None:
         return len(gains) == 0
     if front == ENDLESS:
-        return 1 <= len(gains) <= 2 and gain_somewhere(gains) and gain_everywhere(gains)
-    low, high = ends_of_stretch(front)
+        return 1 <= len(gains) <= 2 and gain_everywhere(gains)
+    low, high = stretch_of(front)
     rest = list(gains)
     if low != AHEAD_OF_ALL:
         if not rest or not ends_at_low(rest[0], low):

@@ -6,24 +6,34 @@ from hitclocks.findings import Finding
 from hitclocks.fronts import check_front, is_over
 from hitclocks.lines import AHEAD_OF_ALL
 from hitclocks.memories import negated
+from hitclocks.searches import steps_at
 from hitclocks.telling import last_run
 from hitclocks.unders import bends
 
 
 class Asker:
-    """Answers what the most is at a price, and keeps the tales and pumps by which it does."""
+    """Answers what the most is at a price, and keeps the tales and pumps by which it does.
 
-    def __init__(self, memory, program, start, goals):
+    steps_of tells of a price what is paid at it: all steps of the memory, or some of them.
+    """
+
+    def __init__(self, memory, program, start, goals, steps_of):
         self.memory = memory
         self.program = program
         self.start = start
         self.goals = goals
+        self.steps_of = steps_of
         self.tales = {}
         self.pumps = {}
 
+    def front(self):
+        """The front of all answers."""
+        return by_asking(lambda price: self.answer(price))
+
     def answer(self, price):
         """None without runs, ("most", pair) of a dearest run, or ("gains", pair) of a round that gains."""
-        finding = Finding(self.memory, self.program, self.start, self.goals, price)
+        steps_of = self.steps_of
+        finding = Finding(self.program, steps_of(price), self.start, self.goals)
         most = finding.greatest()
         if most is None:
             return None
@@ -47,8 +57,17 @@ def whole(memory, program, start, goals):
     """The front that is, at each price, the most."""
     check_case(memory, program, start, goals)
     check_triples(memory, program)
-    asker = Asker(memory, program, start, goals)
-    return by_asking(lambda price: asker.answer(price))
+    return front_of_runs(memory, program, start, goals)
+
+
+def front_of_runs(memory, program, start, goals):
+    """As whole, without checks."""
+    return asker_of(memory, program, start, goals).front()
+
+
+def asker_of(memory, program, start, goals):
+    """The asker for all steps of a memory."""
+    return Asker(memory, program, start, goals, lambda price: steps_at(memory, price))
 
 
 def cheapest(memory, program, start, goals):

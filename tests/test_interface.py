@@ -5,6 +5,7 @@ import inspect
 import unittest
 
 CASE = "memory program start goals"
+TWO = "one other state against"
 INTERFACE = {
     "memories": {"Memory": "letters moves", "stepped": "memory state letter", "read": "memory state word",
                  "negated": "memory", "relettered": "memory names"},
@@ -52,8 +53,45 @@ INTERFACE = {
                "loss_swamped": "memory program intruder state"},
     "alike": {"excess": "one other state against word", "likeness": "one other state against", "parting": "one other state against",
               "least_memory": "memory state"},
+    "settling": {"settling": "memory", "unsettled": "memory", "is_unsettled": "memory thing"},
+    "excesses": {"excess_front": TWO, "is_potential": TWO + " price thing", "gain": TWO + " ring", "excess_showing": TWO,
+                 "is_excess_showing": TWO + " thing", "beginnings": "memory"},
+    "monitors": {"Monitor": "letters moves lets", "least_monitor": "monitor", "barring": "letters some", "at_most": "letters some number",
+                 "just": "letters some number", "counted": "letters some step rest", "behind": "letters early late",
+                 "having": "letters word"},
+    "watching": {"watched": "memory monitor", "watched_goals": "memory goals monitor", "watched_whole": CASE + " monitor",
+                 "least_bans": CASE + " bound"},
+    "barred": {"first_barred": "program monitor"},
+    "stairs": {"best_at": "fronts price", "stairs": "fronts", "fewest": "fronts"},
+    "choices": {"case_fronts": "cases", "plan": "cases price", "is_plan": "cases price thing"},
+    "locks": {"locked": "rule ways lines back lot", "lock_cases": "rule ways lines back number program", "packings": "things room",
+              "packed": "program packing", "packing_cases": "rule ways back program room"},
+    "means": {"mean_at": CASE + " price", "margin_at": CASE + " price", "margin_tale": CASE + " price"},
+    "laps": {"is_lap": CASE + " thing", "mean_of": CASE + " lap", "lap_at": CASE + " price", "is_mean_paper": "memory program price mean thing",
+             "shown_margin": CASE + " price mean paper", "mean_paper": CASE + " price"},
+    "meanshows": {"is_mean_front": "thing", "mean_worth": "means price", "mean_prices": "means", "no_gain": "means", "mean_front": CASE,
+                  "mean_showing": CASE, "is_mean_showing": CASE + " thing"},
+    "readings": {"is_open": CASE + " word", "rest_front": CASE + " word", "next_letters": CASE + " word", "Reading": CASE + " price"},
+    "journals": {"journal_of": "reading", "first_false": CASE + " price thing", "replayed": CASE + " price journal",
+                 "shortened": CASE + " price journal"},
+    "texts": {"memory_text": "memory", "memory_of": "text", "program_text": "program", "program_of": "text", "front_text": "front",
+              "front_from": "text", "word_text": "word", "word_from": "text"},
+    "talewords": {"tale_text": "tale", "tale_from": "text"},
+    "desk": {"Desk": ""},
 }
-METHODS = {("memories", "Memory"): ["__init__", "__len__", "__eq__"], ("programs", "Program"): ["__init__", "__eq__", "procedures"]}
+# For each class the methods that stand in it, with their parameters.
+METHODS = {
+    ("memories", "Memory"): {"__init__": "letters moves", "__len__": "", "__eq__": "other"},
+    ("programs", "Program"): {"__init__": "procedures first", "__eq__": "other", "procedures": None},
+    ("monitors", "Monitor"): {"__init__": "letters moves lets", "__len__": "", "__eq__": "other", "__contains__": "thing", "__invert__": "",
+                              "__and__": "other", "__or__": "other"},
+    ("readings", "Reading"): {"__init__": CASE + " price", "__len__": "", "__eq__": "other", "read": "letter", "set_price": "price", "begin": "",
+                              "keep": "", "drop": "", "undo": "", "word": "", "state": "", "price": "", "paid": "", "paid_worth": "", "blocks": "",
+                              "may_end": "", "letters": "", "rest": "", "rest_least": "", "log": "", "copy": "", "behind": "word", "most": "",
+                              "least": "", "worths": "", "dearest_choices": "", "cheapest_choices": "", "best_change": "prices"},
+    ("desk", "Desk"): {"__init__": "", "__eq__": "other", "load": "name text", "drop": "name", "undo": "", "log": "", "names": "",
+                       "answer": "line", "copy": ""},
+}
 
 
 class Interface(unittest.TestCase):
@@ -72,8 +110,10 @@ class Interface(unittest.TestCase):
     def test_methods_stand_in_the_classes(self):
         for (module_name, name), methods in METHODS.items():
             found = vars(getattr(importlib.import_module("hitclocks." + module_name), name))
-            for method in methods:
+            for method, parameters in methods.items():
                 self.assertIn(method, found)
+                if parameters is not None:
+                    self.assertEqual(list(inspect.signature(found[method]).parameters), ["self"] + parameters.split(), method)
 
     def test_the_package_defines_nothing(self):
         package = importlib.import_module("hitclocks")

@@ -212,7 +212,11 @@ class Code(unittest.TestCase):
                 if isinstance(part, ast.Assign):
                     self.assertEqual(len(part.targets), 1, name)
                     self.assertIsInstance(part.targets[0], ast.Name, name)
-                    ast.literal_eval(part.value)
+                    if isinstance(part.value, ast.Dict) and isinstance(part.value.values[0], ast.Name):
+                        above = {inner.name for inner in tree(name).body[:at] if isinstance(inner, ast.FunctionDef)}
+                        self.assertLessEqual({value.id for value in part.value.values}, above)
+                    else:
+                        ast.literal_eval(part.value)
                 elif isinstance(part, ast.Expr):
                     self.assertEqual(at, 0, name)
                 else:
@@ -220,7 +224,7 @@ class Code(unittest.TestCase):
 
     def test_no_barred_nodes(self):
         barred = (ast.Global, ast.AsyncFunctionDef, ast.Await, ast.Import, ast.GeneratorExp, ast.Div, ast.AnnAssign,
-                  ast.Starred, ast.MatMult, ast.Pow, ast.Try, ast.With, ast.SetComp, ast.Set, ast.Yield,
+                  ast.MatMult, ast.Pow, ast.With, ast.SetComp, ast.Set, ast.Yield,
                   ast.YieldFrom, ast.Nonlocal, ast.NamedExpr, ast.JoinedStr, ast.Match)
         for name in files():
             for part in ast.walk(tree(name)):
@@ -235,6 +239,26 @@ class Code(unittest.TestCase):
                         if isinstance(sign, (ast.Is, ast.IsNot)):
                             self.assertIsInstance(right, ast.Constant, name)
                             self.assertIn(right.value, (None, True, False), name)
+
+    def test_only_own_errors_are_caught(self):
+        own = {part.name for part in tree("errors.py").body if isinstance(part, ast.ClassDef)}
+        for name in files():
+            for part in ast.walk(tree(name)):
+                if isinstance(part, ast.Try):
+                    self.assertEqual(part.finalbody, [], name)
+                    for handler in part.handlers:
+                        self.assertIn(handler.type.id, own, name)
+
+    def test_stars_stand_in_calls_of_plain_names(self):
+        for name in files():
+            starred = {id(part) for part in ast.walk(tree(name)) if isinstance(part, ast.Starred)}
+            self.assertLessEqual(len(starred), 1, name)
+            for part in ast.walk(tree(name)):
+                if isinstance(part, ast.Call):
+                    for argument in part.args:
+                        if isinstance(argument, ast.Starred):
+                            self.assertIsInstance(part.func, ast.Name, name)
+                            self.assertIsInstance(argument.value, ast.Name, name)
 
     def test_builtins(self):
         python = set(dir(builtins))
@@ -266,24 +290,27 @@ class Code(unittest.TestCase):
                     self.assertIsInstance(part.ctx, ast.Store, name)
 
     def test_attributes_and_methods(self):
-        methods, attributes, called = set(), set(), set()
+        methods, attributes, called, both = set(), set(), set(), set()
         python = set()
         for value in ("", 0, [], {}, set(), b"", ()):
             python |= {word for word in dir(value) if not word.startswith("__")}
         for name in files():
             for part in ast.walk(tree(name)):
                 if isinstance(part, ast.ClassDef):
-                    for item in part.body:
-                        if isinstance(item, ast.FunctionDef) and not item.name.startswith("__"):
-                            methods.add(item.name)
+                    own = {item.name for item in part.body if isinstance(item, ast.FunctionDef)}
+                    methods |= {word for word in own if not word.startswith("__")}
+                    both |= own & {inner.attr for inner in ast.walk(part)
+                                   if isinstance(inner, ast.Attribute) and isinstance(inner.ctx, ast.Store)}
                 if isinstance(part, ast.Attribute) and isinstance(part.ctx, ast.Store):
                     attributes.add(part.attr)
                     self.assertIsInstance(part.value, ast.Name, (name, part.attr))
                 if isinstance(part, ast.Call) and isinstance(part.func, ast.Attribute):
                     called.add(part.func.attr)
         self.assertEqual(attributes & BARRED_ATTRIBUTES, set())
-        self.assertEqual((methods | attributes) & python, set())
-        self.assertEqual(methods & attributes, set())
+        self.assertEqual((methods | attributes) & python, {"copy"})
+        self.assertEqual(both, set())
+        # A name of a method of one class and of an attribute of another one is not called where operators run.
+        self.assertEqual(methods & attributes, {"letters", "most", "names", "price"})
         self.assertEqual({word for word in called if not word.startswith("__")} - methods - BUILTIN_METHODS, set())
 
     def test_sets_are_not_made(self):
@@ -313,11 +340,14 @@ class Code(unittest.TestCase):
             self.assertEqual(len(lines), len(set(lines)), name)
 
     def test_methods_are_called_where_they_stand(self):
-        methods = set()
+        methods, attributes = set(), set()
         for name in files():
             for part in ast.walk(tree(name)):
                 if isinstance(part, ast.ClassDef):
                     methods |= {item.name for item in part.body if isinstance(item, ast.FunctionDef) and not item.decorator_list}
+                if isinstance(part, ast.Attribute) and isinstance(part.ctx, ast.Store):
+                    attributes.add(part.attr)
+        methods -= attributes
         for name in files():
             whole = tree(name)
             called = {id(part.func) for part in ast.walk(whole) if isinstance(part, ast.Call)}
