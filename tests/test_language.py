@@ -355,6 +355,39 @@ class Code(unittest.TestCase):
                 if isinstance(part, ast.Attribute) and part.attr in methods:
                     self.assertIn(id(part), called, (name, part.lineno))
 
+    def test_what_operators_run_changes_only_what_it_made(self):
+        known, waiting = {}, []
+        for name in files():
+            for part in tree(name).body:
+                if isinstance(part, ast.FunctionDef):
+                    known[part.name] = part
+                if isinstance(part, ast.ClassDef):
+                    for item in functions(part):
+                        if item.decorator_list or item.name.startswith("__") and item.name != "__init__":
+                            waiting.append(item)
+        seen = set()
+        while waiting:
+            function = waiting.pop()
+            if id(function) in seen:
+                continue
+            seen.add(id(function))
+            made = {}
+            for part in ast.walk(function):
+                if isinstance(part, ast.Call) and isinstance(part.func, ast.Name) and part.func.id in known:
+                    waiting.append(known[part.func.id])
+                if isinstance(part, ast.Assign) and isinstance(part.targets[0], ast.Name):
+                    is_new = isinstance(part.value, (ast.List, ast.Dict, ast.ListComp, ast.DictComp))
+                    made[part.targets[0].id] = made.get(part.targets[0].id, True) and is_new
+            for part in ast.walk(function):
+                if isinstance(part, ast.Attribute):
+                    self.assertIsInstance(part.ctx, ast.Load, function.name)
+                if isinstance(part, ast.AugAssign):
+                    self.assertIsInstance(part.value, ast.Constant, function.name)
+                for changed in changed_by(part) if not isinstance(part, ast.AugAssign) else []:
+                    self.assertIsInstance(changed, ast.Name, function.name)
+                    self.assertIs(made.get(changed.id), True, (function.name, changed.id))
+        self.assertGreater(len(seen), 15)
+
     def test_kept_ranges_and_views(self):
         for name in files():
             for part in ast.walk(tree(name)):
